@@ -1,0 +1,56 @@
+"""The examples of sections 4, 5 and 6 of the document, word for word."""
+
+import doctest
+import unittest
+
+EXAMPLES = r"""
+>>> from trustsorted.houses import House, is_world, listed, order, world
+>>> text = 'signs a b A B 1 2 -\nrule shell\n  ranks - 1 2 A B a b\nrule phone\n  figures - 1 2 a=A b=B\n  ranks a A b B 1=2=-\nrule cloud\n  ranks known 1<2 a<b A<B'
+>>> house = House(text.replace('known 1<2 a<b A<B', '1 2 a A b B -'))
+>>> [listed(house, rule, ('b-1', 'a12', 'B', 'a2', 'A2')) for rule in ('shell', 'phone', 'cloud')]
+[('A2', 'B', 'a12', 'a2', 'b-1'), ('a2', 'A2', 'a12', 'B', 'b-1'), ('a12', 'a2', 'A2', 'b-1', 'B')]
+>>> [order(house, 'phone', 'aB', 'Ab'), order(house, 'phone', 'Aa', 'ab'), House(text).is_full, is_world(House(text), house)]
+['before', 'before', False, True]
+>>> from trustsorted.seeing import fitting, possible, ranked
+>>> dim = House(text)
+>>> [[word for word, some in possible(dim, (), 'cloud', one, other)] for one, other in (('a1', 'a2'), ('a', 'b-'), ('a-', 'a1'))]
+[['before'], ['before'], ['alike', 'before', 'behind']]
+>>> seen = (('cloud', ('a-', 'a1', 'A')),)
+>>> [[word for word, some in possible(dim, seen, 'cloud', 'a-2', 'a1')], ('a', 'A') in ranked(dim, seen, 'cloud', 0), fitting(dim, (('cloud', ('1', 'a')), ('cloud', ('b', 'a'))))]
+[['before', 'behind'], True, ('none', (1,))]
+>>> from trustsorted.trusting import agreed, carries, same, together
+>>> folded = House('signs a A b 1 2\nrule exact\n  ranks 1 2 A a b\nrule loose\n  ranks 1 2 a=A b\nrule fine\n  ranks 1 2 a=A b\n  ranks A a b=1=2\nrule value\n  figures 1 2 a=A b')
+>>> [carries(folded, (), one, other)[0] for one, other in (('fine', 'loose'), ('loose', 'fine'), ('exact', 'loose'), ('fine', 'fine'))]
+['carries', 'not', 'not', 'carries']
+>>> [together(folded, (), 'exact', 'loose')[0], together(folded, (), 'fine', 'loose'), agreed(folded, (), 'loose', 'fine'), agreed(folded, (), 'loose', 'value')[0]]
+['apart', ('together',), ('agreed',), 'clash']
+"""
+
+
+class ExamplesTest(unittest.TestCase):
+
+    def test_examples(self):
+        example = doctest.DocTestParser().get_doctest(EXAMPLES, {}, "examples", None, 0)
+        self.assertEqual(len(example.examples), 14)
+        runner = doctest.DocTestRunner(verbose=False)
+        self.assertEqual(runner.run(example).failed, 0)
+
+    def test_what_is_told_below_the_examples(self):
+        from trustsorted.houses import House, order
+        from trustsorted.seeing import fitting, ranked
+
+        text = "signs a b A B 1 2 -\nrule cloud\n  ranks known 1<2 a<b A<B"
+        dim = House(text)
+        seen = (("cloud", ("a-", "a1", "A")),)
+        some = fitting(dim, seen)[1]
+        self.assertNotEqual(order(some, "cloud", "-", "1"), "behind")
+        self.assertIn(("a", "A"), ranked(dim, seen, "cloud", 0))
+        folded = House("signs a A b 1 2\nrule exact\n  ranks 1 2 A a b\nrule loose\n  ranks 1 2 a=A b\n"
+                       "rule value\n  figures 1 2 a=A b")
+        self.assertEqual(order(folded, "exact", "Ab", "aA"), "before")
+        self.assertEqual(order(folded, "loose", "Ab", "aA"), "behind")
+        self.assertEqual(order(folded, "value", "2", "12"), "before")
+
+
+if __name__ == "__main__":
+    unittest.main()

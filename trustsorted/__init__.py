@@ -1,0 +1,1 @@
+"""Programs that trust an order which another program made."""
