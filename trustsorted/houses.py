@@ -61,8 +61,8 @@ def listed(house, rule, rows):
     check_full(house)
     check_rule(house, rule)
     check_rows(house, rows)
-    passes = house.passes(rule)
-    return tuple(sorted(list(rows), key=lambda row: name_key(passes, row)))
+    keys = sorted([(name_key(house.passes(rule), row), at) for at, row in enumerate(rows)])
+    return tuple([rows[at] for key, at in keys])
 
 
 def is_listed(house, rule, rows):

@@ -12,21 +12,21 @@ from trustsorted.simplify import ENDLESS, longest_rests, shortest_tails, simplif
 from trustsorted.trackers import DONE, ENDED
 
 
-def last_name(tracker):
-    """The number of the last name that a tracker follows."""
-    return max(tracker.low, tracker.high)
-
-
 class Search:
-    """One search; `ways` are tuples of trackers, those of one of which have to be told."""
+    """One search; `ways` are tuples of trackers, those of one of which have to be told.
+
+    `closers` are the trackers of each way by the name that comes last of
+    those they follow; in this sequence they stand in `ways`, too.
+    """
 
     def __init__(self, house, lores, many, ways):
         self.lores = lores
         self.many = many
-        self.ways = [sorted(list(way), key=last_name) for way in ways]
         self.closers = [
-            [[tracker for tracker in way if last_name(tracker) == name] for name in range(many)] for way in self.ways
+            [[tracker for tracker in way if max(tracker.low, tracker.high) == name] for name in range(many)]
+            for way in ways
         ]
+        self.ways = [[tracker for trackers in told for tracker in trackers] for told in self.closers]
         self.machine = simplified(house.machine)
         self.tails = shortest_tails(self.machine)
         self.longest = longest_rests(self.machine)
@@ -188,8 +188,9 @@ class Search:
         """The node behind a step; names that do not count any more are read to their ends."""
         letters, places, states, told = step
         outlook = self.outlook(node.way, states)
-        masked = zip(told, self.starts, outlook.masks)
-        known = tuple([bits & mask | start & ~mask for bits, start, mask in masked])
+        known = tuple([
+            bits & mask | start & ~mask for bits, start, mask in zip(told, self.starts, outlook.masks)
+        ])
         child = Node(node.way, places, states, known)
         child.told = told
         child.parent = node

@@ -19,8 +19,8 @@ def word_worlds(lore, one, other):
         known = lore.more(known, number, alike)
         if known is None:
             return found
-    word = "alike" if verdict == 0 else "before"
-    found.setdefault("behind" if verdict > 0 else word, known)
+    last = "before" if verdict < 0 else "alike"
+    found.setdefault("behind" if verdict > 0 else last, known)
     return found
 
 

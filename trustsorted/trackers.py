@@ -174,10 +174,9 @@ class Tracker:
                 more = self.lore.with_alike(known, self.decider, low, high)
             elif word == "<":
                 more = self.lore.with_before(known, self.decider, low, high)
-            if state == WON:
-                state = SETTLED if self.is_tied else DONE
+            settled = SETTLED if self.is_tied else DONE
             if more is not None:
-                told.append((state, more))
+                told.append((settled if state == WON else state, more))
         return told
 
 
