@@ -384,6 +384,13 @@ class WorldTest(unittest.TestCase):
                 pass
         self.assertEqual(right, len(worlds))
 
+    def test_each_word_of_facts(self):
+        for word, right in (("<", "a b"), ("<=", "a b;a=b"), ("=", "a=b"), ("!=", "a b;b a")):
+            house = House("signs a b\nrule r\n  ranks known a" + word + "b")
+            for classes in ("a b", "b a", "a=b", "b=a"):
+                told = classes.replace("b=a", "a=b") in right.split(";")
+                self.assertIs(is_world(house, House("signs a b\nrule r\n  ranks " + classes)), told, (word, classes))
+
     def test_signs_of_a_class_stand_in_any_sequence(self):
         house = House("signs a b 1\nrule r\n  ranks known a=b\n  ranks a=b 1")
         for some, told in (

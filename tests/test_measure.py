@@ -13,6 +13,26 @@ from trustsorted.houses import House, is_world, world
 
 RULES = ("one", "two")
 
+# Houses in which it shows if a search leaves out too much: signs that are taken for one another though facts or
+# listings part them, passes that are forgotten though listings bind them to others, longer ways taken for shorter ones.
+HARD = (
+    ("signs a 1 2 3\nrule one\n  figures known 2!=3 2!=1\nrule two\n  length\n  back known 1!=a 1!=a 1!=2",
+     (("two", ("", "1", "223")), ("one", ("", "")))),
+    ("signs a b 1 2\nnames 2 b2a1 1a2b?\nrule one\n  length\nrule two\n  figures a=b 1=2\n  back known 2=a", ()),
+    ("signs a 1 2 3\nrule one\n  figures known\nrule two\n  figures known", ()),
+    ("signs a 1 2 3\nnames 2a+ 1+\nrule one\n  length\nrule two\n  figures known 3=2\n  length", ()),
+    ("signs a b c d\nnames bd c\nnames a d\nrule one\n  ranks known\n  ranks known\nrule two\n  length",
+     (("one", ("ad", "bc")), ("one", ("dc", "ad")))),
+    ("signs a b c d\nnames d cd\nnames b a\nrule one\n  ranks known\n  ranks known\nrule two\n  figures d a b c",
+     (("one", ("dc", "dd", "ba")),)),
+    ("signs a b c\nnames bc a ca\nnames cba cba cab\nrule one\n  ranks known\n  ranks known\nrule two\n  ranks a b=c",
+     (("one", ("acc", "baa", "ccc")),)),
+    ("signs a b c d\nnames b d b\nnames a b cbad\nrule one\n  ranks known\n  ranks known\nrule two\n  ranks c=d b a\n"
+     "  length", (("one", ("abd", "abb")), ("one", ("bdb", "abd")))),
+    ("signs a b c\nnames c cb\nnames ca acb\nrule one\n  ranks known\n  ranks known\nrule two\n  ranks b a=c",
+     (("one", ("ab", "cc")),)),
+)
+
 
 def draw_seen(drawn, text, hidden):
     """Listings of names; in a hidden world they fit, if there is one."""
@@ -146,6 +166,16 @@ class MeasureTest(unittest.TestCase):
     def test_relations_over_four_signs(self):
         self.assert_relations(3000, 3080, 4, 40, ("carries", "agreed", "same"))
         self.assert_relations(3100, 3180, 4, 12, ("together",))
+
+    def test_hard_houses(self):
+        for text, seen in HARD:
+            house = House(text)
+            for relation in RELATIONS:
+                most = most_length(text, 12 if relation == "together" else 60)
+                for rules in (RULES, RULES[::-1]):
+                    told = getattr(trusting, relation)(house, seen, *rules)
+                    self.assertEqual(complaint(text, seen, relation, rules, told, most), "", (relation, text, told))
+                    self.assertIs(getattr(trusting, "shows_" + relation)(house, seen, *rules, told), True)
 
 
 if __name__ == "__main__":

@@ -230,6 +230,16 @@ class ShowsTest(unittest.TestCase):
             self.assertIs(shows_possible(*args, value), False, value)
         self.assertIs(shows_possible(house, seen, "r", value=told, one="b", other="1"), True)
 
+    def test_possible_asks_for_worlds_that_fit(self):
+        house = House(self.HOUSE)
+        seen = (("r", ("b", "1")), ("s", ("a", "b")))
+        told = possible(house, seen, "r", "a", "b")
+        for text in all_worlds(self.HOUSE):
+            some = House(text)
+            good = is_listed(some, "r", ("b", "1")) and is_listed(some, "s", ("a", "b"))
+            good = good and order(some, "r", "a", "b") == "before"
+            self.assertIs(shows_possible(house, seen, "r", "a", "b", (told[0], ("before", some), told[2])), good)
+
     def test_possible_raises_what_possible_raises(self):
         house = House(self.HOUSE)
         self.assertRaises(BadSeen, shows_possible, house, 1, 1, 1, 1, 1)

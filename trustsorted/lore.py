@@ -2,8 +2,7 @@
 
 What is known of all passes of a rule is one integer, whose bits are those of
 the rows in closing.py: for each pass the rows of lows, then those of belows.
-More bits mean that more is known, and that fewer worlds fit. A world is told
-by such an integer, too, in which all is known.
+More bits mean that more is known, and that fewer worlds fit.
 """
 
 from trustsorted.chains import chain
@@ -25,14 +24,10 @@ class Lore:
         self.unlike = []
         self.drawn = {}
         self.twinned = {}
-        self.hopeless = {}
-        self.worlds = []
         self.chains = [self.links(one, other) for rows in files for one, other in zip(rows, rows[1:])]
         self.start = self.settled(self.first_known())
         if self.start is not None:
-            self.chains = [told for told in self.chains if self.open_link(self.start, told) is not None]
-            if self.world(self.start) is None:
-                self.start = None
+            self.chains = [told for told in self.chains if not self.is_kept(told[0])]
         self.marked = self.marked_signs()
 
     def marked_signs(self):
@@ -48,6 +43,13 @@ class Lore:
                 marked[pair[0]] = True
                 marked[pair[1]] = True
         return marked
+
+    def is_kept(self, links):
+        """Whether the files leave no choice in a chain."""
+        for number, alike, before, behind in links:
+            if self.start & alike != alike:
+                return self.start & before == before
+        return True
 
     def first_known(self):
         """What the lines of the passes tell."""
@@ -143,34 +145,24 @@ class Lore:
             return None
         return known | self.packed(number, told[0], told[1])
 
-    def open_link(self, known, told):
-        """The first link of a chain that can be alike or not; None if none counts.
+    def pressed(self, known, links, verdict):
+        """What follows where a chain must not tell behind, None if nothing fits it.
 
-        None counts if one ahead of it is sure to tell before or behind.
+        The first link that is not sure to be alike must not tell behind. What
+        stands behind it is not bound, for it can be made to tell before.
         """
-        for link in told[0]:
-            if known & link[1] != link[1]:
-                return None if known & link[2] == link[2] else link
-        return None
-
-    def is_surely_behind(self, known, links, verdict):
-        """Whether a chain is sure to tell behind."""
         for number, alike, before, behind in links:
             if known & alike != alike:
-                return known & behind == behind
-        return verdict > 0
-
-    def pressed(self, known, links, verdict):
-        """What follows where a chain must not tell behind, None if nothing fits it."""
-        for at, (number, alike, before, behind) in enumerate(links):
-            if known & alike != alike:
-                if self.is_surely_behind(known, links[at + 1:], verdict):
-                    return self.followed(known, number, before)
                 return self.followed(known, number, alike & before)
         return None if verdict > 0 else known
 
     def settled(self, known):
-        """What follows by all files, as far as no choice is needed; None if nothing fits."""
+        """All that is known if the files are listed, too; None if no world fits.
+
+        A world fits if all classes are apart that are not sure to be one:
+        then the first link of each chain that is not sure to be alike tells
+        before. So where nothing here is at odds, there is a world.
+        """
         earlier = None
         while earlier != known:
             earlier = known
@@ -180,64 +172,12 @@ class Lore:
                     return None
         return known
 
-    def searched(self, known):
-        """What is known of some worlds that all fit, None if none does."""
-        left = [known]
-        while left:
-            known = self.settled(left.pop())
-            if known is None:
-                continue
-            hanging = [self.open_link(known, told) for told in self.chains]
-            hanging = [link for link in hanging if link is not None]
-            if not hanging:
-                return known
-            number, alike, before, behind = hanging[0]
-            choices = [self.followed(known, number, bits) for bits in (alike, before)]
-            left.extend([choice for choice in choices if choice is not None])
-        return None
-
-    def world(self, known):
-        """A world that fits, and in which all stands that is known; None if there is none."""
-        if known in self.hopeless:
-            return None
-        for world in self.worlds:
-            if known & ~world == 0:
-                return world
-        told = self.searched(known)
-        if told is None:
-            self.hopeless[known] = True
-            return None
-        world = sum([self.packed(number, lows, belows) for number, lows, belows in self.arranged_rows(told)])
-        self.worlds.append(world)
-        return world
-
-    def arranged_rows(self, known):
-        """(pass, lows, belows) for each pass with ranks, of a world in which all stands that is known."""
-        told = []
-        for number, classes in self.classes(known):
-            lows, belows = class_rows(self.signs, classes)
-            told.append((number, lows, belows))
-        return told
-
-    def classes(self, known):
-        """(pass, classes) for each pass with ranks, of a world in which all stands that is known."""
-        told = []
-        for number, word in enumerate(self.words):
-            if word != "length":
-                lows, belows = self.rows(known, number)
-                told.append((number, arranged(self.signs, lows, self.figures_of(number))))
-        return told
-
     def more(self, known, number, bits):
         """All that is known if these bits of a pass are, too; None if no world fits then."""
         key = (known, bits)
         if key not in self.drawn:
             told = self.followed(known, number, bits)
-            if told is not None and told != known and self.chains:
-                told = self.settled(told)
-                if told is not None and self.world(told) is None:
-                    told = None
-            self.drawn[key] = told
+            self.drawn[key] = told if told is None or told == known else self.settled(told)
         return self.drawn[key]
 
     def with_alike(self, known, number, one, other):
@@ -247,6 +187,15 @@ class Lore:
     def with_before(self, known, number, one, other):
         """All that is known if one stands ahead of other in a pass, too; None if no world fits."""
         return self.more(known, number, self.pair_bits(number, one, other)[1])
+
+    def classes(self, known):
+        """The classes of each pass with ranks, by its number, in a world that fits."""
+        told = {}
+        for number, word in enumerate(self.words):
+            if word != "length":
+                lows, belows = self.rows(known, number)
+                told[number] = arranged(self.signs, lows, self.figures_of(number))
+        return told
 
 
 def swapped(row, one, other):

@@ -179,9 +179,8 @@ class Search:
 
     def tracked(self, node, letters, tracker, states, known):
         """The states of trackers, and what is known, behind the signs for one more tracker."""
-        state = node.states[len(states)]
-        steps = tracker.steps(state, letters[tracker.low], letters[tracker.high], known[tracker.place])
         at = tracker.place
+        steps = tracker.steps(node.states[len(states)], letters[tracker.low], letters[tracker.high], known[at])
         return [(states + (state,), known[:at] + (more,) + known[at + 1:]) for state, more in steps]
 
     def child(self, node, step):

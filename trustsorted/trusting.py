@@ -8,15 +8,6 @@ from trustsorted.trackers import alike_ways, before_ways
 from trustsorted.worlds import fitting_lore, world_text
 
 
-def checked_lore(house, seen, one, other):
-    """What is told of both rules and all others; the error for what is no right argument."""
-    check_seen(house, seen)
-    lores = fitting_lore(house, seen)
-    check_rule(house, one)
-    check_rule(house, other)
-    return lores
-
-
 def shortest(house, lores, rules, ways):
     """(world, name, ..) by which one of the ways holds, with shortest names; None if none does."""
     many = 1 + max([max(tracker.low, tracker.high) for way in ways for tracker in way])
@@ -26,6 +17,22 @@ def shortest(house, lores, rules, ways):
     names, known = read_answer(node, house.signs)
     told = {rule: known[at] for at, rule in enumerate(rules)}
     return (House(world_text(house, lores, told)),) + tuple(names)
+
+
+def judged(house, seen, rules, words, ways_of):
+    """The first word if none of the ways holds for two rules, otherwise the second one and what shows it.
+
+    `ways_of` tells the ways of the lore of both rules. A rule is the same as
+    itself in each world, whatever its ranks are.
+    """
+    check_seen(house, seen)
+    lores = fitting_lore(house, seen)
+    check_rule(house, rules[0])
+    check_rule(house, rules[1])
+    if rules[0] == rules[1]:
+        return (words[0],)
+    found = shortest(house, lores, rules, ways_of(lores[rules[0]], lores[rules[1]]))
+    return (words[0],) if found is None else (words[1],) + found
 
 
 def crossed(ways, trackers):
@@ -38,51 +45,49 @@ def not_behind_ways(lore, place, one, other):
     return alike_ways(lore, place, one, other) + before_ways(lore, place, one, other)
 
 
+def turned_ways(first, second):
+    """The ways in which a name is not behind another one by the first rule, but by the second one."""
+    return crossed(crossed([()], not_behind_ways(first, 0, 0, 1)), before_ways(second, 1, 1, 0))
+
+
+def clashing_ways(first, second):
+    """The ways in which a name is before another one by the first rule, and behind it by the second one."""
+    return crossed(crossed([()], before_ways(first, 0, 0, 1)), before_ways(second, 1, 1, 0))
+
+
+def unlike_ways(first, second):
+    """The ways in which both rules tell unlike words of two names; which one comes first does not matter."""
+    split = crossed(crossed([()], before_ways(first, 0, 0, 1)), alike_ways(second, 1, 0, 1))
+    return turned_ways(first, second) + split
+
+
+def parted_ways(first, second):
+    """The ways in which names 0 and 1 are alike by the second rule, and 2 is not, but stands between them."""
+    ways = crossed([()], alike_ways(second, 1, 0, 1))
+    ways = crossed(ways, before_ways(second, 1, 0, 2) + before_ways(second, 1, 2, 0))
+    ways = crossed(ways, not_behind_ways(first, 0, 0, 2))
+    return crossed(ways, not_behind_ways(first, 0, 2, 1))
+
+
 def carries(house, seen, one, other):
     """Whether names that are not behind one another by one rule are not so by the other one."""
-    lores = checked_lore(house, seen, one, other)
-    if one == other:
-        return ("carries",)
-    ways = crossed([()], not_behind_ways(lores[one], 0, 0, 1))
-    ways = crossed(ways, before_ways(lores[other], 1, 1, 0))
-    found = shortest(house, lores, (one, other), ways)
-    return ("carries",) if found is None else ("not",) + found
+    return judged(house, seen, (one, other), ("carries", "not"), turned_ways)
 
 
 def together(house, seen, one, other):
     """Whether names that are alike by the other rule stand together where the first one listed them."""
-    lores = checked_lore(house, seen, one, other)
-    if one == other:
-        return ("together",)
-    ways = crossed([()], alike_ways(lores[other], 1, 0, 1))
-    ways = crossed(ways, before_ways(lores[other], 1, 0, 2) + before_ways(lores[other], 1, 2, 0))
-    ways = crossed(ways, not_behind_ways(lores[one], 0, 0, 2))
-    ways = crossed(ways, not_behind_ways(lores[one], 0, 2, 1))
-    found = shortest(house, lores, (one, other), ways)
-    return ("together",) if found is None else ("apart", found[0], found[1], found[3], found[2])
+    told = judged(house, seen, (one, other), ("together", "apart"), parted_ways)
+    return told if len(told) == 1 else (told[0], told[1], told[2], told[4], told[3])
 
 
 def agreed(house, seen, one, other):
     """Whether no names stand one way by one rule and the other way by the other one."""
-    lores = checked_lore(house, seen, one, other)
-    if one == other:
-        return ("agreed",)
-    ways = crossed([()], before_ways(lores[one], 0, 0, 1))
-    ways = crossed(ways, before_ways(lores[other], 1, 1, 0))
-    found = shortest(house, lores, (one, other), ways)
-    return ("agreed",) if found is None else ("clash",) + found
+    return judged(house, seen, (one, other), ("agreed", "clash"), clashing_ways)
 
 
 def same(house, seen, one, other):
     """Whether both rules tell the same word of any two names."""
-    lores = checked_lore(house, seen, one, other)
-    if one == other:
-        return ("same",)
-    behind = before_ways(lores[other], 1, 1, 0)
-    ways = crossed(crossed([()], not_behind_ways(lores[one], 0, 0, 1)), behind)
-    ways = ways + crossed(crossed([()], before_ways(lores[one], 0, 0, 1)), alike_ways(lores[other], 1, 0, 1))
-    found = shortest(house, lores, (one, other), ways)
-    return ("same",) if found is None else ("unlike",) + found
+    return judged(house, seen, (one, other), ("same", "unlike"), unlike_ways)
 
 
 def is_shaped(house, seen, told, value):

@@ -35,7 +35,10 @@ def class_line(line, classes):
 
 def world_text(house, lores, known):
     """The text of a world that fits, in which all stands that is known of some rules."""
-    told = {rule: dict(lores[rule].classes(lores[rule].world(known.get(rule, lores[rule].start)))) for rule in lores}
+    told = {}
+    for name in lores:
+        lore = lores[name]
+        told[name] = lore.classes(known.get(name, lore.start))
     lines = []
     rule, number = "", 0
     for line in house.text.split("\n"):
