@@ -10,7 +10,7 @@ FOLDER = os.path.join(os.path.dirname(os.path.dirname(os.path.abspath(__file__))
 
 BUILTINS = set((
     "len range enumerate zip min max sum abs sorted reversed int str bool bytes list tuple dict set isinstance ord repr "
-    "any all divmod ValueError TypeError KeyError NotImplemented True False None"
+    "any all divmod ValueError TypeError KeyError NotImplemented True False None property staticmethod"
 ).split())
 
 METHODS = set((
@@ -23,6 +23,8 @@ SPECIAL = set((
     "__init__ __eq__ __repr__ __str__ __len__ __enter__ __exit__ __call__ __iter__ __contains__ __getitem__ __setitem__ "
     "__iadd__ __isub__ __or__ __and__ __sub__ __invert__ __name__"
 ).split())
+
+KEYWORDS = [("sorted", ("key",)), ("min", ("key",)), ("max", ("default",)), ("min", ("default",))]
 
 STATEMENTS = (
     ast.Assign, ast.AugAssign, ast.If, ast.While, ast.For, ast.Return, ast.Break, ast.Continue, ast.Pass, ast.Raise,
@@ -81,7 +83,8 @@ class LanguageTest(unittest.TestCase):
     def test_functions_are_short(self):
         for place, node in self.nodes(ast.FunctionDef):
             self.assertLessEqual(node.end_lineno - node.lineno + 1, 40, place)
-            self.assertEqual([at for at in node.decorator_list if getattr(at, "id", "") != "property"], [], place)
+            told = [at for at in node.decorator_list if getattr(at, "id", "") not in ("property", "staticmethod")]
+            self.assertEqual(told, [], place)
             self.assertIsNotNone(ast.get_docstring(node) or node.name.startswith("__"), place)
 
     def test_statements(self):
@@ -201,7 +204,7 @@ class LanguageTest(unittest.TestCase):
             word = getattr(node.func, "id", getattr(node.func, "attr", ""))
             told = [keyword.arg for keyword in node.keywords]
             if word not in own and told:
-                self.assertIn((word, tuple(told)), [("sorted", ("key",)), ("max", ("default",)), ("min", ("default",))], place)
+                self.assertIn((word, tuple(told)), KEYWORDS, place)
 
     def test_sets_are_not_kept(self):
         allowed = set()

@@ -1,6 +1,7 @@
 """Values of any kind, as the document lets them be handed in anywhere."""
 
 from trustsorted.houses import House
+from trustsorted.sets import Names
 
 
 def nested(deep, wrap):
@@ -13,10 +14,12 @@ def nested(deep, wrap):
 def any_values():
     """Integers, bools, None, strings, tuples, lists, dicts and objects, also deep in one another."""
     house = House("signs a\nrule r\n  ranks a")
+    names = Names.of(("a", "b"), ("a* b",))
     return [
         0, 1, -1, 7, 10 ** 30, True, False, None, "", "a", "r", "rule", "before", "nothing",
         (), (1,), (True,), ("a",), ("r", ("a", "a")), (("r", ("a", "a")),), [], ["a"], [1, 2], {}, {"a": 1}, {1: []},
         house, (house,), [house], {"a": house}, ("fits", house), ("carries", house),
+        names, (names,), [names], {"a": names}, ("right",), ("deceived", house, (("a",),)), ("keep", "r"),
         nested(30, lambda value: (value,)), nested(30, lambda value: [value]), nested(30, lambda value: {"a": value}),
     ]
 

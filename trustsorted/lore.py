@@ -21,6 +21,10 @@ class Lore:
         self.lines = house.passes(rule)
         self.words = [word for word, classes, facts in self.lines]
         self.figures = figure_bits(house.signs)
+        self.pairs = {
+            (number, one, other): self.new_bits(number, one, other)
+            for number in range(len(self.lines)) for one in range(self.size) for other in range(self.size)
+        }
         self.unlike = []
         self.drawn = {}
         self.twinned = {}
@@ -28,6 +32,7 @@ class Lore:
         self.start = self.settled(self.first_known())
         if self.start is not None:
             self.chains = [told for told in self.chains if not self.is_kept(told[0])]
+        self.is_full = self.start is not None and self.has_one_world()
         self.marked = self.marked_signs()
 
     def marked_signs(self):
@@ -80,6 +85,10 @@ class Lore:
 
     def pair_bits(self, number, one, other):
         """The bits by which one is alike to other in a pass, is before it, and is behind it."""
+        return self.pairs[(number, one, other)]
+
+    def new_bits(self, number, one, other):
+        """The same, worked out."""
         low = 1 << (2 * number * self.size + one) * self.size + other
         high = 1 << (2 * number * self.size + other) * self.size + one
         far = self.size * self.size
@@ -180,13 +189,32 @@ class Lore:
             self.drawn[key] = told if told is None or told == known else self.settled(told)
         return self.drawn[key]
 
+    def is_alike(self, known, number, one, other):
+        """Whether two signs are known to be of one class in a pass."""
+        bits = self.pair_bits(number, one, other)[0]
+        return known & bits == bits
+
     def with_alike(self, known, number, one, other):
         """All that is known if two signs are of one class in a pass, too; None if no world fits."""
         return self.more(known, number, self.pair_bits(number, one, other)[0])
 
+    def with_low(self, known, number, one, other):
+        """All that is known if one does not stand behind other in a pass, too; None if no world fits."""
+        alike, before, behind = self.pair_bits(number, one, other)
+        return self.more(known, number, alike & before)
+
     def with_before(self, known, number, one, other):
         """All that is known if one stands ahead of other in a pass, too; None if no world fits."""
         return self.more(known, number, self.pair_bits(number, one, other)[1])
+
+    def has_one_world(self):
+        """Whether all ranks are known."""
+        told = self.classes(self.start)
+        for number in told:
+            lows, belows = class_rows(self.signs, told[number])
+            if self.packed(number, lows, belows) & ~self.start:
+                return False
+        return True
 
     def classes(self, known):
         """The classes of each pass with ranks, by its number, in a world that fits."""

@@ -8,50 +8,58 @@ of any length.
 """
 
 from trustsorted.nodes import Node, Outlook
-from trustsorted.simplify import ENDLESS, longest_rests, shortest_tails, simplified
+from trustsorted.simplify import ENDLESS
 from trustsorted.trackers import DONE, ENDED
 
 
 class Search:
-    """One search; `ways` are tuples of trackers, those of one of which have to be told.
+    """One search for names that stand to one another as trackers ask for.
 
-    `closers` are the trackers of each way by the name that comes last of
-    those they follow; in this sequence they stand in `ways`, too.
+    The longest of the names that are looked for has to be shorter than
+    `limit`. `starts` is what is known of each rule at first. `closers` are
+    the trackers by the name that comes last of those they follow; in this
+    sequence they stand in `trackers`. `best` is the last node of the shortest
+    answer that was found.
     """
 
-    def __init__(self, house, lores, many, ways):
+    def __init__(self, setting, lores, trackers, limit):
+        self.setting = setting
+        self.machine = setting.machine
+        self.given = setting.given
+        self.names = setting.names
         self.lores = lores
-        self.many = many
+        self.starts = tuple([lore.start for lore in lores])
         self.closers = [
-            [[tracker for tracker in way if max(tracker.low, tracker.high) == name] for name in range(many)]
-            for way in ways
+            [tracker for tracker in trackers if max(tracker.low, tracker.high) == name] for name in self.names
         ]
-        self.ways = [[tracker for trackers in told for tracker in trackers] for told in self.closers]
-        self.machine = simplified(house.machine)
-        self.tails = shortest_tails(self.machine)
-        self.longest = longest_rests(self.machine)
+        self.trackers = [tracker for told in self.closers for tracker in told]
+        self.limit = limit
         self.best = None
         self.queues = {}
         self.rests = {}
         self.reached = {}
         self.choices = {}
         self.outlooks = {}
-        self.starts = tuple([lore.start for lore in lores])
-        self.columns = [tuple([row[sign] for row in self.machine.moves]) for sign in range(len(house.signs))]
 
     def first_nodes(self):
-        """The nodes at which nothing is read."""
-        nodes = []
+        """The nodes at which nothing is read, but names that do not count at all."""
+        states = tuple([tracker.first for tracker in self.trackers])
+        live = self.outlook(states).live
+        shortest = min([self.setting.tails[place] for place in self.machine.starts], key=len)
         places = [()]
-        for _ in range(self.many):
-            places = [told + (place,) for told in places for place in self.machine.starts]
-        for way, trackers in enumerate(self.ways):
-            states = tuple([tracker.first for tracker in trackers])
-            nodes.extend([Node(way, told, states, self.starts) for told in places])
+        for name in self.names:
+            begins = self.machine.starts if name >= self.given else (self.setting.begins[name],)
+            places = [told + (place,) for told in places for place in (begins if live[name] else (ENDED,))]
+        nodes = [Node(told, states, self.starts) for told in places]
+        for node in nodes:
+            node.tails = tuple([
+                () if is_live or name < self.given else shortest for name, is_live in enumerate(live)
+            ])
+            node.floor = max([len(tail) for tail in node.tails])
         return nodes
 
     def run(self):
-        """The last node of a shortest answer, None if there is none.
+        """Find the last node of a shortest answer; `best` is None if there is none.
 
         The nodes of which the shortest answers can come are gone on with
         first, of these the one that came last.
@@ -60,72 +68,95 @@ class Search:
             self.enter(node)
         while self.queues:
             bound = min(list(self.queues))
-            if self.best is not None and self.best.floor <= bound:
+            if bound >= self.limit:
                 break
             node = self.queues[bound].pop()
             if not self.queues[bound]:
                 del self.queues[bound]
             if not node.is_idle:
-                for step in self.steps(node):
-                    self.enter(self.child(node, step))
-        return self.best
+                self.go_on(node, bound)
 
     def enter(self, node):
         """Keep a node to go on with it, if an answer may come of it that no other one gives."""
-        if self.can_end(node):
-            if self.best is None or node.floor < self.best.floor:
-                self.best = node
+        last = node if self.can_end(node) else self.last_node(node)
+        if last is not None:
+            if node.floor < self.limit:
+                self.best = last
+                self.limit = node.floor
             return
         rest = self.rest(node)
         if rest is None:
             return
         bound = max(node.floor, node.depth + rest)
-        if (self.best is None or bound < self.best.floor) and self.is_new(node):
+        if bound < self.limit and self.is_new(node):
             self.queues.setdefault(bound, []).append(node)
+
+    def last_node(self, node):
+        """A node behind which all is sure, if all names that are looked for end; None if there is none."""
+        if not self.outlook(node.states).is_tied:
+            return None
+        steps = [((), (), (), node.known)]
+        for name in self.names:
+            choices = self.choices_of(node, name)
+            if name >= self.given:
+                choices = [choice for choice in choices if choice[0] == ENDED]
+            steps = [more for step in steps for choice in choices for more in self.extended(node, step, choice)]
+        return self.child(node, steps[0]) if steps else None
 
     def rest(self, node):
         """How many signs the longest name will surely have still; None if the names cannot end."""
-        key = (node.way, node.places, node.states)
+        key = (node.places, node.states)
         if key not in self.rests:
             self.rests[key] = self.new_rest(node)
         return self.rests[key]
 
     def new_rest(self, node):
         """The same, worked out by the lengths that names must have beside one another."""
-        least = [0 if place == ENDED else len(self.tails[place]) for place in node.places]
-        most = [ENDLESS if place == ENDED else self.longest[place] for place in node.places]
-        for _ in range(self.many + 1):
+        least = [0 if place == ENDED else len(self.setting.tails[place]) for place in node.places]
+        most = [ENDLESS if place == ENDED else self.setting.longest[place] for place in node.places]
+        for _ in range(len(self.names) + 1):
             earlier = least + most
-            for tracker, state in zip(self.ways[node.way], node.states):
-                low, high = tracker.low, tracker.high
-                if state != DONE and tracker.is_tied:
-                    least[low] = least[high] = max(least[low], least[high])
-                    most[low] = most[high] = min(most[low], most[high])
-                elif state != DONE and tracker.word == "length":
-                    least[high] = max(least[high], least[low] + 1)
-                    most[low] = min(most[low], most[high] - 1)
-            if least + most == earlier and all([least[name] <= most[name] for name in range(self.many)]):
-                return max(least + [1])
+            for tracker, state in zip(self.trackers, node.states):
+                if state != DONE:
+                    self.bind(least, most, tracker, state)
+            if least + most == earlier and all([least[name] <= most[name] for name in self.names]):
+                return max(least[self.given:] + [1])
         return None
 
-    def steps(self, node):
-        """What may be read next: (signs, places, states of the trackers, what is known)."""
+    def bind(self, least, most, tracker, state):
+        """Bind the lengths of two names that a tracker follows to one another."""
+        low, high = tracker.low, tracker.high
+        gap = 0 if tracker.is_even else tracker.least_gap(state)
+        if gap is not None:
+            least[high] = max(least[high], least[low] + gap)
+            most[low] = min(most[low], most[high] - gap)
+        if tracker.is_even:
+            least[low] = least[high]
+            most[high] = most[low]
+
+    def go_on(self, node, bound):
+        """Read one sign more of each name, in all ways, unless an answer comes up that is as short as can be.
+
+        A step is (signs, places, states of the trackers, what is known).
+        """
         twins = self.twins(node)
-        steps = [((), (), (), node.known)]
-        for name in range(self.many):
-            choices = self.choices_of(node, name)
-            steps = [
-                more for step in steps for choice in choices
-                if self.is_first_twin(twins, step[0], choice[0]) for more in self.extended(node, step, choice)
-            ]
-        return steps
+        stack = [((), (), (), node.known)]
+        while stack and bound < self.limit:
+            step = stack.pop()
+            if len(step[0]) == len(self.names):
+                self.enter(self.child(node, step))
+            else:
+                for choice in self.choices_of(node, len(step[0])):
+                    if self.is_first_twin(twins, step[0], choice[0]):
+                        stack.extend(self.extended(node, step, choice))
 
     def twins(self, node):
         """For each sign the first one that could stand in its place as well."""
-        marks = [[column] for column in self.columns]
-        needs = self.outlook(node.way, node.states).needs
+        outlook = self.outlook(node.states)
+        columns = self.setting.columns if outlook.is_tied else self.setting.free_columns
+        marks = [[column] for column in columns]
         for at, lore in enumerate(self.lores):
-            for sign, twin in enumerate(lore.twins(node.known[at], needs[at])):
+            for sign, twin in enumerate(lore.twins(node.known[at], outlook.needs[at])):
                 marks[sign].append(twin)
         return [marks.index(mark) for mark in marks]
 
@@ -141,36 +172,30 @@ class Search:
         place = node.places[name]
         if place == ENDED:
             return [(ENDED, ENDED)]
-        key = (node.way, node.states, name, place)
+        key = (node.states, name, place)
         if key not in self.choices:
             self.choices[key] = self.new_choices(node, name, place)
         return self.choices[key]
 
     def new_choices(self, node, name, place):
         """The same, worked out."""
+        followed = [
+            tracker.views(state) for tracker, state in zip(self.trackers, node.states)
+            if name in (tracker.low, tracker.high)
+        ]
         met = {}
         for sign, afters in enumerate(self.machine.moves[place]):
-            view = self.view(node, name, sign)
+            view = tuple([views[sign] for views in followed])
             for after in afters:
                 met.setdefault((view, after), (sign, after))
         choices = list(met.values())
         return choices + [(ENDED, ENDED)] if self.machine.ends[place] else choices
 
-    def view(self, node, name, sign):
-        """What still counts of a sign in a name."""
-        view = []
-        for tracker, state in zip(self.ways[node.way], node.states):
-            if name in (tracker.low, tracker.high):
-                view.extend([tracker.lore.first_alike(number, sign) for number in tracker.looked_at(state)])
-                if tracker.minds_figures(state):
-                    view.append(tracker.lore.figures >> sign & 1)
-        return tuple(view)
-
     def extended(self, node, step, choice):
         """The steps with one more sign, behind the trackers of this name and earlier ones."""
         letters = step[0] + (choice[0],)
         told = [(step[2], step[3])]
-        for tracker in self.closers[node.way][len(step[0])]:
+        for tracker in self.closers[len(step[0])]:
             told = [more for states, known in told for more in self.tracked(node, letters, tracker, states, known)]
             if not told:
                 return []
@@ -186,11 +211,11 @@ class Search:
     def child(self, node, step):
         """The node behind a step; names that do not count any more are read to their ends."""
         letters, places, states, told = step
-        outlook = self.outlook(node.way, states)
+        outlook = self.outlook(states)
         known = tuple([
             bits & mask | start & ~mask for bits, start, mask in zip(told, self.starts, outlook.masks)
         ])
-        child = Node(node.way, places, states, known)
+        child = Node(places, states, known)
         child.told = told
         child.parent = node
         child.depth = node.depth + 1
@@ -199,31 +224,29 @@ class Search:
         for name, letter in enumerate(letters):
             tail = () if letter == ENDED else (letter,)
             if letter != ENDED and not outlook.live[name]:
-                tail = tail + self.tails[places[name]]
+                tail = tail + self.setting.tails[places[name]]
                 child.places = child.places[:name] + (ENDED,) + child.places[name + 1:]
             tails.append(tail)
-            if tail:
+            if tail and name >= self.given:
                 child.floor = max(child.floor, node.depth + len(tail))
         child.tails = tuple(tails)
         return child
 
-    def outlook(self, way, states):
+    def outlook(self, states):
         """What counts for what is still to come."""
-        key = (way, states)
-        if key not in self.outlooks:
-            self.outlooks[key] = Outlook(self.lores, self.many, self.ways[way], states)
-        return self.outlooks[key]
+        if states not in self.outlooks:
+            self.outlooks[states] = Outlook(self.lores, self.given, len(self.names), self.trackers, states)
+        return self.outlooks[states]
 
-    def can_end(self, child):
+    def can_end(self, node):
         """Whether the names can all end here."""
-        if not all([place == ENDED or self.machine.ends[place] for place in child.places]):
+        if not all([place == ENDED or self.machine.ends[place] for place in node.places]):
             return False
-        trackers = self.ways[child.way]
-        return all([tracker.can_end(state) for tracker, state in zip(trackers, child.states)])
+        return all([tracker.can_end(state) for tracker, state in zip(self.trackers, node.states)])
 
     def is_new(self, node):
         """Whether no other node covers a node."""
-        key = (node.way, node.places, node.states)
+        key = (node.places, node.states)
         rivals = self.reached.get(key, [])
         if any([self.covers(rival, node) for rival in rivals]):
             return False
@@ -246,10 +269,10 @@ class Search:
 def read_answer(node, signs):
     """The names that were read up to a node, and what had to be known of each rule for it."""
     names = ["" for place in node.places]
-    known = list(node.told)
-    while node.parent is not None:
+    known = [0 for told in node.told]
+    while node is not None:
         for name, tail in enumerate(node.tails):
             names[name] = "".join([signs[sign] for sign in tail]) + names[name]
-        node = node.parent
         known = [one | more for one, more in zip(known, node.told)]
+        node = node.parent
     return names, known

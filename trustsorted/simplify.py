@@ -52,6 +52,22 @@ def simplified(machine):
     return Machine(strongest(machine.starts, stronger), machine.ends, tuple(moves))
 
 
+def chained(machine, names):
+    """A machine that reads given names, too, told by the numbers of their signs; where it begins each of them."""
+    ends = list(machine.ends)
+    moves = list(machine.moves)
+    begins = []
+    for name in names:
+        begins.append(len(ends))
+        for sign in name:
+            behind = (len(ends) + 1,)
+            ends.append(False)
+            moves.append(tuple([behind if other == sign else () for other in range(len(machine.moves[0]))]))
+        ends.append(True)
+        moves.append(tuple([() for row in machine.moves[0]]))
+    return Machine(machine.starts, tuple(ends), tuple(moves)), begins
+
+
 def shortest_tails(machine):
     """For each state the signs of a shortest rest of a name behind it."""
     tails = {state: () for state in range(len(machine.ends)) if machine.ends[state]}

@@ -1,194 +1,286 @@
 """How two names are read together, sign by sign, to tell their order.
 
-Two names that are told alike, or one before the other, by a rule are so by
-one of the ways that its passes leave: some passes call them alike, and the
-next one decides, or all call them alike. A tracker follows one such way. It
-guesses what the signs still to come will be, so that no more needs to be
-known of the ranks than this way asks for.
+A tracker follows two names that have to stand to one another as is asked for:
+alike (Tie), unlike (Split), or the first one ahead (Lead). Where it matters
+how two signs stand in a pass, and this is open, there is a way to go on for
+each answer, with what is known then; of what does not matter nothing is asked.
+
+States are tuples with a code for each pass that is still followed, DONE if
+nothing that comes can make a difference.
 """
 
 ENDED = -1
 
-OPEN = 0
-EVEN = 1
-LONGER = 2
-LESSER = 3
-TAIL = 4
-WON = 5
-SETTLED = 6
-DONE = 7
-
-
-def rank_moves(low, high):
-    """The moves of a pass ranks for two names that are alike so far.
-
-    A move is the state behind it, and what must be known of both signs: "=",
-    "<", or "" for nothing.
-    """
-    if high == ENDED:
-        return ()
-    if low == ENDED:
-        return ((WON, ""),)
-    if low == high:
-        return ((OPEN, ""),)
-    return ((OPEN, "="), (WON, "<"))
-
-
-def length_moves(low, high):
-    """The moves of a pass length."""
-    if high == ENDED:
-        return ()
-    return ((WON, ""),) if low == ENDED else ((OPEN, ""),)
-
-
-def back_moves(state, low, high):
-    """The moves of a pass back: OPEN is ahead of the sign that decides, TAIL behind it."""
-    if low == ENDED or high == ENDED:
-        return ((WON, ""),) if low == high and state == TAIL else ()
-    if state == TAIL:
-        return ((TAIL, "" if low == high else "="),)
-    return ((OPEN, ""),) if low == high else ((OPEN, ""), (TAIL, "<"))
-
-
-def run_moves(low, high, state):
-    """The moves of a pass figures for two figures in runs that are alike so far."""
-    if low == high:
-        moves = ((EVEN, ""),)
-    else:
-        moves = ((EVEN, "="), (LESSER, "<"))
-    return moves + ((LONGER, ""),) if state == OPEN else moves
-
-
-def figure_moves(state, low, high, figures):
-    """The moves of a pass figures.
-
-    OPEN is ahead of a token. In a run EVEN is where it is alike so far,
-    LESSER where both runs have to be of one length, and LONGER where the
-    second one has to be longer; then its figures need not be looked at.
-    """
-    runs = (low != ENDED and figures >> low & 1, high != ENDED and figures >> high & 1)
-    if state == LONGER:
-        if runs[0]:
-            return ((LONGER, ""),) if runs[1] else ()
-        return ((WON, ""),) if runs[1] else ()
-    if state == LESSER:
-        if runs[0] and runs[1]:
-            return ((LESSER, ""),)
-        return () if runs[0] or runs[1] else ((WON, ""),)
-    if runs[0] and runs[1]:
-        return run_moves(low, high, state)
-    if state == EVEN and (runs[0] or runs[1]):
-        return ()
-    return rank_moves(low, high)
+DONE = ()
+EVEN = 0
+RUN = 1
+LESS = 2
+LOST = 3
+RUN_LESS = 4
+RUN_LOST = 5
+BACK_LESS = 6
+BACK_LOST = 7
 
 
 class Tracker:
-    """Follows two names, told by their numbers, in one way that a rule leaves.
+    """Follows two names, told by their numbers; `place` is the number of the rule's lore."""
 
-    `place` is the number of the rule's lore, `alike` are the numbers of the
-    passes that call both alike; `decider` is that of the pass by which the
-    first name is before the second one, None if there is none.
-    """
-
-    def __init__(self, lore, place, names, alike, decider):
+    def __init__(self, lore, place, low, high):
         self.lore = lore
         self.place = place
-        self.low = names[0]
-        self.high = names[1]
-        self.is_tied = bool(alike)
-        self.alike = [number for number in alike if lore.words[number] != "length"]
-        self.decider = decider
-        self.word = "" if decider is None else lore.words[decider]
-        self.first = SETTLED if decider is None else OPEN
+        self.low = low
+        self.high = high
+        self.ranked = [number for number, word in enumerate(lore.words) if word != "length"]
+        self.first = (EVEN,)
+        self.is_even = False
+        self.learns = not lore.is_full
         self.stepped = {}
+        self.viewed = {}
+
+    def without_learning(self):
+        """A tracker that learns nothing of ranks: it takes what is open, each time anew, as it is best."""
+        return self
 
     def looked_at(self, state):
         """The numbers of the passes in which signs are still looked at."""
-        if state == DONE:
-            return []
-        if state in (OPEN, EVEN, TAIL) and self.word != "length":
-            return self.alike + [self.decider]
-        return self.alike
+        return self.ranked if state else []
 
     def needed(self, state):
         """The numbers of the passes of which it counts what is known.
 
         Files that were seen bind all passes of a rule to one another.
         """
-        return list(range(len(self.lore.words))) if self.lore.chains else self.looked_at(state)
+        return list(range(len(self.lore.words))) if state and self.lore.chains else self.looked_at(state)
 
     def minds_figures(self, state):
         """Whether it still counts which signs are figures."""
-        return self.word == "figures" and state in (OPEN, EVEN, LONGER, LESSER)
+        return False
+
+    def views(self, state):
+        """For each sign what still counts of it."""
+        if state not in self.viewed:
+            numbers = self.looked_at(state)
+            signs = list(range(self.lore.size))
+            views = [tuple([self.lore.first_alike(number, sign) for number in numbers]) for sign in signs]
+            if self.minds_figures(state):
+                views = [view + (self.lore.figures >> sign & 1,) for sign, view in enumerate(views)]
+            self.viewed[state] = views
+        return self.viewed[state]
+
+    def least_gap(self, state):
+        """By how many signs the second name is surely longer at least, None if that is not sure."""
+        return None
 
     def can_end(self, state):
         """Whether both names can end here, if they did not yet."""
-        return state in (LESSER, TAIL, SETTLED, DONE)
+        return True
 
-    def next_moves(self, state, low, high):
-        """The moves of the pass that decides."""
-        if self.word == "length":
-            return length_moves(low, high)
-        if self.word == "figures":
-            return figure_moves(state, low, high, self.lore.figures)
-        if self.word == "back":
-            return back_moves(state, low, high)
-        return rank_moves(low, high)
+    def new_steps(self, state, low, high, known):
+        """The steps behind two signs, where not both names have ended."""
+        return [(state, known)]
 
     def steps(self, state, low, high, known):
         """The states, each with what is then known, behind two signs, or ENDED in their places."""
+        if state == DONE:
+            return [(DONE, known)]
+        if low == ENDED and high == ENDED:
+            return [(DONE, known)] if self.can_end(state) else []
         key = (state, low, high, known)
         if key not in self.stepped:
             self.stepped[key] = self.new_steps(state, low, high, known)
         return self.stepped[key]
 
-    def new_steps(self, state, low, high, known):
-        """The same, worked out."""
-        if state == DONE:
-            return [(DONE, known)]
-        if low == ENDED and high == ENDED:
-            return [(DONE, known)] if self.can_end(state) else []
-        if self.is_tied:
-            known = self.known_alike(low, high, known)
-            if known is None:
-                return []
-        if state == SETTLED:
-            return [(SETTLED, known)]
-        return self.decided(self.next_moves(state, low, high), low, high, known)
 
-    def known_alike(self, low, high, known):
-        """What is known if the passes that have to call two signs alike do so; None if they cannot."""
+class Tie(Tracker):
+    """Follows two names that have to be alike: all passes call all their signs alike."""
+
+    def __init__(self, lore, place, low, high):
+        Tracker.__init__(self, lore, place, low, high)
+        self.is_even = True
+
+    def new_steps(self, state, low, high, known):
+        """The steps behind two signs, where not both names have ended."""
         if low == ENDED or high == ENDED:
-            return None
-        for number in self.alike:
+            return []
+        for number in self.ranked:
             if known is not None and low != high:
                 known = self.lore.with_alike(known, number, low, high)
-        return known
+        return [] if known is None else [(state, known)]
 
-    def decided(self, moves, low, high, known):
-        """The steps by which these moves can be made."""
-        told = []
-        for state, word in moves:
-            more = known
-            if word == "=":
-                more = self.lore.with_alike(known, self.decider, low, high)
-            elif word == "<":
-                more = self.lore.with_before(known, self.decider, low, high)
-            settled = SETTLED if self.is_tied else DONE
-            if more is not None:
-                told.append((settled if state == WON else state, more))
+
+class Split(Tracker):
+    """Follows two names that have to be unlike: by their lengths, or by any place in any pass."""
+
+    def without_learning(self):
+        """A tracker that learns nothing of ranks."""
+        told = Split(self.lore, self.place, self.low, self.high)
+        told.learns = False
+        return told
+
+    def can_end(self, state):
+        """Whether both names can end here, if they did not yet."""
+        return state == DONE
+
+    def new_steps(self, state, low, high, known):
+        """The steps behind two signs, where not both names have ended."""
+        if low == ENDED or high == ENDED:
+            return [(DONE, known)]
+        if low == high:
+            return [(state, known)]
+        if not self.learns:
+            open_ones = [number for number in self.ranked if not self.lore.is_alike(known, number, low, high)]
+            return [(DONE if open_ones else state, known)]
+        told = [(state, known)]
+        for number in self.ranked:
+            for one, other in ((low, high), (high, low)):
+                more = self.lore.with_before(known, number, one, other)
+                if more == known:
+                    return [(DONE, known)]
+                if more is not None:
+                    told.append((DONE, more))
         return told
 
 
-def alike_ways(lore, place, one, other):
-    """The trackers of all ways in which two names are alike."""
-    return [Tracker(lore, place, (one, other), list(range(len(lore.words))), None)]
+class Lead(Tracker):
+    """Follows two names, the first of which has to be before the second one, or alike to it if `is_loose`.
 
+    Of each pass is told: EVEN, if it called all signs alike; RUN likewise,
+    within runs of figures; LESS, if it tells before; LOST, if it tells behind,
+    so that a pass ahead of it has to tell before. Within unlike runs of one
+    length so far: RUN_LESS, if the first one is before, RUN_LOST, if it is
+    behind. In a pass back: BACK_LESS, if the last unlike signs tell before,
+    BACK_LOST, if they tell behind.
+    """
 
-def before_ways(lore, place, one, other):
-    """The trackers of all ways in which the first name is before the second one."""
-    ways = []
-    for number, word in enumerate(lore.words):
-        if number == 0 or word != "length":
-            ways.append(Tracker(lore, place, (one, other), list(range(number)), number))
-    return ways
+    def __init__(self, lore, place, low, high, is_loose):
+        Tracker.__init__(self, lore, place, low, high)
+        self.is_loose = is_loose
+        self.first = tuple([EVEN for word in lore.words])
+
+    def without_learning(self):
+        """A tracker that learns nothing of ranks."""
+        told = Lead(self.lore, self.place, self.low, self.high, self.is_loose)
+        told.learns = False
+        return told
+
+    def looked_at(self, state):
+        """The numbers of the passes in which signs are still looked at."""
+        told = list(zip(self.lore.words, state))
+        return [
+            number for number, (word, code) in enumerate(told)
+            if word != "length" and code in (EVEN, RUN, BACK_LESS, BACK_LOST)
+        ]
+
+    def minds_figures(self, state):
+        """Whether it still counts which signs are figures."""
+        told = list(zip(self.lore.words, state))
+        return any([word == "figures" and code in (EVEN, RUN, RUN_LESS, RUN_LOST) for word, code in told])
+
+    def least_gap(self, state):
+        """By how many signs the second name is surely longer at least, None if that is not sure."""
+        if not state or self.lore.words[0] != "length":
+            return None
+        return 1 if len(state) > 1 and state[1] == LOST else 0
+
+    def is_at_least(self, state, other):
+        """Whether whatever can follow another state so that all holds can follow a state, too."""
+        if state == other or state == DONE:
+            return True
+        rising = ((LOST, EVEN, LESS), (LOST, RUN_LOST, RUN, RUN_LESS, LESS), (BACK_LOST, EVEN, BACK_LESS))
+        for code, rival in zip(state, other):
+            if code != rival:
+                told = [codes for codes in rising if code in codes and rival in codes]
+                return bool(told) and told[0].index(rival) < told[0].index(code)
+        return False
+
+    def can_end(self, state):
+        """Whether both names can end here, if they did not yet."""
+        for code in state:
+            if code not in (EVEN, RUN):
+                return code in (LESS, RUN_LESS, BACK_LESS)
+        return self.is_loose or state == DONE
+
+    def new_steps(self, state, low, high, known):
+        """The steps behind two signs, where not both names have ended.
+
+        What a pass tells does not count any more where one ahead of it does
+        not call the names alike.
+        """
+        told = []
+        rows = [((), known)]
+        for number, code in enumerate(state):
+            further = []
+            for codes, some in rows:
+                for after, more in self.pass_steps(number, code, low, high, some):
+                    if after in (EVEN, RUN):
+                        further.append((codes + (after,), more))
+                    else:
+                        told.append((codes + (after,), more))
+            rows = further
+        told = [(DONE if codes[0] == LESS else codes, some) for codes, some in told + rows]
+        return [(codes, some) for codes, some in told if codes == DONE or codes[0] != LOST]
+
+    def pass_steps(self, number, code, low, high, known):
+        """The codes of a pass, each with what is then known, behind two signs."""
+        word = self.lore.words[number]
+        if code in (LESS, LOST):
+            return [(code, known)]
+        if word == "figures":
+            return self.figure_steps(number, code, low, high, known)
+        if word == "back":
+            return self.back_steps(number, code, low, high, known)
+        if word == "length" and low != ENDED and high != ENDED:
+            return [(EVEN, known)]
+        return self.rank_steps(number, low, high, known)
+
+    def rank_steps(self, number, low, high, known):
+        """The steps behind two signs by their classes."""
+        if low == ENDED or high == ENDED:
+            return [(LESS if low == ENDED else LOST, known)]
+        if low == high:
+            return [(EVEN, known)]
+        before = self.lore.with_before(known, number, low, high)
+        if before == known:
+            return [(LESS, known)]
+        alike = self.lore.with_alike(known, number, low, high)
+        if alike == known:
+            return [(EVEN, known)]
+        behind = self.lore.with_before(known, number, high, low)
+        return self.open_steps(((LESS, before), (EVEN, alike), (LOST, behind)), known)
+
+    def open_steps(self, told, known):
+        """The steps of those told, the better ones ahead, that can be; but the best one, if nothing is learned."""
+        steps = [(code, more) for code, more in told if more is not None]
+        return steps if self.learns else [(steps[0][0], known)]
+
+    def figure_steps(self, number, code, low, high, known):
+        """The steps of a pass figures."""
+        figures = self.lore.figures
+        runs = (low != ENDED and figures >> low & 1, high != ENDED and figures >> high & 1)
+        if runs[0] and runs[1]:
+            if code in (RUN_LESS, RUN_LOST):
+                return [(code, known)]
+            inside = {EVEN: RUN, LESS: RUN_LESS, LOST: RUN_LOST}
+            return [(inside[after], more) for after, more in self.rank_steps(number, low, high, known)]
+        if code != EVEN and (runs[0] or runs[1]):
+            return [(LESS if runs[1] else LOST, known)]
+        if code in (RUN_LESS, RUN_LOST):
+            return [(LESS if code == RUN_LESS else LOST, known)]
+        return self.rank_steps(number, low, high, known)
+
+    def back_steps(self, number, code, low, high, known):
+        """The steps of a pass back, which counts for names of one length alone."""
+        if low == high or low == ENDED or high == ENDED:
+            return [(code, known)]
+        if code == EVEN:
+            last = {EVEN: EVEN, LESS: BACK_LESS, LOST: BACK_LOST}
+            return [(last[after], more) for after, more in self.rank_steps(number, low, high, known)]
+        if code == BACK_LESS:
+            less = self.lore.with_low(known, number, low, high)
+            lost = self.lore.with_before(known, number, high, low)
+        else:
+            less = self.lore.with_before(known, number, low, high)
+            lost = self.lore.with_low(known, number, high, low)
+        if less == known or lost == known:
+            return [(BACK_LESS if less == known else BACK_LOST, known)]
+        return self.open_steps(((BACK_LESS, less), (BACK_LOST, lost)), known)

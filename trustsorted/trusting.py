@@ -2,19 +2,18 @@
 
 from trustsorted.checks import check_rule, check_seen, has_name, is_told
 from trustsorted.houses import House, told_order
-from trustsorted.search import Search, read_answer
 from trustsorted.seeing import fits
-from trustsorted.trackers import alike_ways, before_ways
+from trustsorted.solving import shortest_answer
+from trustsorted.trackers import Lead, Split, Tie
 from trustsorted.worlds import fitting_lore, world_text
 
 
-def shortest(house, lores, rules, ways):
+def shortest(house, lores, rules, many, ways):
     """(world, name, ..) by which one of the ways holds, with shortest names; None if none does."""
-    many = 1 + max([max(tracker.low, tracker.high) for way in ways for tracker in way])
-    node = Search(house, [lores[rule] for rule in rules], many, ways).run()
-    if node is None:
+    answer = shortest_answer(house, [lores[rule] for rule in rules], (), many, ways)
+    if answer is None:
         return None
-    names, known = read_answer(node, house.signs)
+    number, names, known = answer
     told = {rule: known[at] for at, rule in enumerate(rules)}
     return (House(world_text(house, lores, told)),) + tuple(names)
 
@@ -22,8 +21,8 @@ def shortest(house, lores, rules, ways):
 def judged(house, seen, rules, words, ways_of):
     """The first word if none of the ways holds for two rules, otherwise the second one and what shows it.
 
-    `ways_of` tells the ways of the lore of both rules. A rule is the same as
-    itself in each world, whatever its ranks are.
+    `ways_of` tells how many names there are, and the ways of the lore of both
+    rules. A rule is the same as itself in each world, whatever its ranks are.
     """
     check_seen(house, seen)
     lores = fitting_lore(house, seen)
@@ -31,42 +30,31 @@ def judged(house, seen, rules, words, ways_of):
     check_rule(house, rules[1])
     if rules[0] == rules[1]:
         return (words[0],)
-    found = shortest(house, lores, rules, ways_of(lores[rules[0]], lores[rules[1]]))
+    many, ways = ways_of(lores[rules[0]], lores[rules[1]])
+    found = shortest(house, lores, rules, many, ways)
     return (words[0],) if found is None else (words[1],) + found
-
-
-def crossed(ways, trackers):
-    """The ways with one more tracker each, every one of these in turn."""
-    return [way + (tracker,) for way in ways for tracker in trackers]
-
-
-def not_behind_ways(lore, place, one, other):
-    """The trackers of all ways in which the first name is not behind the second one."""
-    return alike_ways(lore, place, one, other) + before_ways(lore, place, one, other)
 
 
 def turned_ways(first, second):
     """The ways in which a name is not behind another one by the first rule, but by the second one."""
-    return crossed(crossed([()], not_behind_ways(first, 0, 0, 1)), before_ways(second, 1, 1, 0))
+    return 2, [(Lead(first, 0, 0, 1, True), Lead(second, 1, 1, 0, False))]
 
 
 def clashing_ways(first, second):
     """The ways in which a name is before another one by the first rule, and behind it by the second one."""
-    return crossed(crossed([()], before_ways(first, 0, 0, 1)), before_ways(second, 1, 1, 0))
+    return 2, [(Lead(first, 0, 0, 1, False), Lead(second, 1, 1, 0, False))]
 
 
 def unlike_ways(first, second):
     """The ways in which both rules tell unlike words of two names; which one comes first does not matter."""
-    split = crossed(crossed([()], before_ways(first, 0, 0, 1)), alike_ways(second, 1, 0, 1))
-    return turned_ways(first, second) + split
+    split = (Lead(first, 0, 0, 1, False), Tie(second, 1, 0, 1))
+    return 2, turned_ways(first, second)[1] + [split]
 
 
 def parted_ways(first, second):
-    """The ways in which names 0 and 1 are alike by the second rule, and 2 is not, but stands between them."""
-    ways = crossed([()], alike_ways(second, 1, 0, 1))
-    ways = crossed(ways, before_ways(second, 1, 0, 2) + before_ways(second, 1, 2, 0))
-    ways = crossed(ways, not_behind_ways(first, 0, 0, 2))
-    return crossed(ways, not_behind_ways(first, 0, 2, 1))
+    """The ways in which names 0 and 2 are alike by the second rule, and 1 is not, but stands between them."""
+    between = (Lead(first, 0, 0, 1, True), Lead(first, 0, 1, 2, True))
+    return 3, [(Tie(second, 1, 0, 2), Split(second, 1, 0, 1)) + between]
 
 
 def carries(house, seen, one, other):
@@ -76,8 +64,7 @@ def carries(house, seen, one, other):
 
 def together(house, seen, one, other):
     """Whether names that are alike by the other rule stand together where the first one listed them."""
-    told = judged(house, seen, (one, other), ("together", "apart"), parted_ways)
-    return told if len(told) == 1 else (told[0], told[1], told[2], told[4], told[3])
+    return judged(house, seen, (one, other), ("together", "apart"), parted_ways)
 
 
 def agreed(house, seen, one, other):
