@@ -1,4 +1,4 @@
-"""The examples of sections 4, 5 and 6 of the document, word for word."""
+"""The examples of sections 4 to 8 of the document, word for word."""
 
 import doctest
 import unittest
@@ -24,6 +24,27 @@ EXAMPLES = r"""
 ['carries', 'not', 'not', 'carries']
 >>> [together(folded, (), 'exact', 'loose')[0], together(folded, (), 'fine', 'loose'), agreed(folded, (), 'loose', 'fine'), agreed(folded, (), 'loose', 'value')[0]]
 ['apart', ('together',), ('agreed',), 'clash']
+>>> from trustsorted.tools import meant, used
+>>> from trustsorted.trust import trust
+>>> [used(folded, ('keep', 'loose'), (('A', 'Ab', 'a'),)), meant(folded, 'exact', ('keep', 'loose'), (('A', 'Ab', 'a'),))]
+[('A', 'Ab', 'a'), False]
+>>> [used(folded, ('find', 'value', '2'), (('12', '2'),)), used(folded, ('find', 'value', '12'), (('12', '2'),))]
+[True, False]
+>>> exact, fine, value = ('exact', (), ()), ('fine', (), ()), ('value', (), ())
+>>> [trust(folded, (), (fine,), ('keep', 'loose')), len(trust(folded, (), (exact,), ('find', 'value', '12'))[2][0]), trust(folded, (), (value, value), ('merge', 'exact'))[0]]
+[('right',), 2, 'deceived']
+>>> [trust(folded, (), (('exact', ('loose',), (('exact', 'a', 'aa'),)),), ('keep', rule))[0] for rule in ('loose', 'value')]
+['right', 'right']
+>>> from trustsorted.losing import lost
+>>> from trustsorted.sets import Names
+>>> [Names.of(('a', 'b'), ('ab?',)).many(length) for length in (0, 1, 2)]
+[1, 2, 0]
+>>> few = Names.of(('a', 'b'), ('a+ b?', ''))
+>>> [few.table, few.shortest, few.many(3), 'aab' in few, (few & ~few).shortest, few.is_within(Names.of(('a', 'b'), ('a* b*',)))]
+[((True, (1, 2)), (True, (1, 3)), (False, (2, 2)), (True, (2, 2))), '', 2, True, None, True]
+>>> gone = lost(folded, 'exact', 'value')
+>>> ['12' in gone, '2' in gone, gone.shortest, lost(folded, 'fine', 'loose').shortest]
+[True, True, 'a', None]
 """
 
 
@@ -31,7 +52,7 @@ class ExamplesTest(unittest.TestCase):
 
     def test_examples(self):
         example = doctest.DocTestParser().get_doctest(EXAMPLES, {}, "examples", None, 0)
-        self.assertEqual(len(example.examples), 14)
+        self.assertEqual(len(example.examples), 28)
         runner = doctest.DocTestRunner(verbose=False)
         self.assertEqual(runner.run(example).failed, 0)
 
