@@ -12,6 +12,16 @@ from tests.test_trust import measure
 from trustsorted.houses import House
 from trustsorted.trust import trust
 
+ENDS = (
+    ("b 2", ["2b* b+ b 2"], (["figures 2 b"], ["length"], ["figures 2 b"]),
+     (("two", (), ()), ("three", (), ())), ("both", "two"), 4),
+    ("- 1", ["1-? - -1* -? 1- 1+", "-1 1+"], (["figures 1 -", "back -=1"], ["length", "figures 1 -"], ["ranks 1 -", "length"]),
+     (("two", ("three", "two"), ()), ("three", ("one", "three"), ())), ("both", "one"), 4),
+    ("2 A a .", ["A aA2", ".Aa? aA? aA A2 a* A?"],
+     (["ranks . a 2 A", "ranks 2 a A ."], ["figures 2 a . A", "back A a .=2"], ["ranks . 2 A=a"]),
+     (("three", (), ()),), ("find", "one", "Aa"), 3),
+)
+
 
 def draw_text(drawn, most_signs, most_worlds):
     """The text of a house of two or three rules with not too many worlds, and one of its worlds."""
@@ -105,6 +115,17 @@ class TrustMeasureTest(unittest.TestCase):
     def test_more_worlds(self):
         for word in FILES:
             self.measure(word, 6000, 6006, 2, 400)
+
+    def test_forms_with_ends_of_many_lengths(self):
+        """What ends late may stand where the search comes early: it is not to hide what ends early."""
+        for signs, forms, rules, promises, tool, most in ENDS:
+            lines = ["signs " + signs] + ["names " + form for form in forms]
+            for name, passes in zip(("one", "two", "three"), rules):
+                lines = lines + ["rule " + name] + ["  " + line for line in passes]
+            house = House("\n".join(lines))
+            told = trust(house, (), promises, tool)
+            self.assertEqual(told[0], "deceived")
+            self.assertEqual(wrong_load(house.text, (), promises, tool, told, most), "", (house.text, promises, tool))
 
 
 if __name__ == "__main__":

@@ -16,13 +16,14 @@ class Search:
     """One search for names that stand to one another as trackers ask for.
 
     The longest of the names that are looked for has to be shorter than
-    `limit`. `starts` is what is known of each rule at first. `closers` are
+    `limit`, and how much shorter than `floor` it is does not count.
+    `starts` is what is known of each rule at first. `closers` are
     the trackers by the name that comes last of those they follow; in this
     sequence they stand in `trackers`. `best` is the last node of the shortest
     answer that was found.
     """
 
-    def __init__(self, setting, lores, trackers, limit):
+    def __init__(self, setting, lores, trackers, floor, limit):
         self.setting = setting
         self.machine = setting.machine
         self.given = setting.given
@@ -33,6 +34,7 @@ class Search:
             [tracker for tracker in trackers if max(tracker.low, tracker.high) == name] for name in self.names
         ]
         self.trackers = [tracker for told in self.closers for tracker in told]
+        self.floor = floor
         self.limit = limit
         self.best = None
         self.queues = {}
@@ -55,7 +57,7 @@ class Search:
             node.tails = tuple([
                 () if is_live or name < self.given else shortest for name, is_live in enumerate(live)
             ])
-            node.floor = max([len(tail) for tail in node.tails])
+            node.floor = max([self.floor] + [len(tail) for tail in node.tails])
         return nodes
 
     def run(self):

@@ -47,7 +47,8 @@ class Problem:
 
     `given` are the names that are given, `sought` the numbers of the others.
     `eased` are the trackers that learn nothing of ranks, and `asked` those
-    that are asked for so far, by their numbers.
+    that are asked for so far, by their numbers. The longest of the names that
+    are sought has at least as many signs as `floor`.
     """
 
     def __init__(self, house, setting, lores, given, trackers):
@@ -59,6 +60,7 @@ class Problem:
         self.trackers = trackers
         self.eased = [tracker.without_learning() if tracker.learns else tracker for tracker in trackers]
         self.asked = {}
+        self.floor = 0
 
     def solved(self, limit):
         """(names, what is known of each rule) with shortest names, None if there are none below a limit."""
@@ -81,10 +83,11 @@ class Problem:
 
     def searched(self, trackers, limit):
         """The same for some trackers."""
-        search = Search(self.setting, self.lores, trackers, limit)
+        search = Search(self.setting, self.lores, trackers, self.floor, limit)
         search.run()
         if search.best is None:
             return None
+        self.floor = search.limit
         names, known = read_answer(search.best, self.house.signs)
         return list(self.given) + names[len(self.given):], known
 
