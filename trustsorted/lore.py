@@ -32,7 +32,7 @@ class Lore:
         self.start = self.settled(self.first_known())
         if self.start is not None:
             self.chains = [told for told in self.chains if not self.is_kept(told[0])]
-        self.is_full = self.start is not None and self.has_one_world()
+        self.levels = self.open_passes() if self.start is not None else []
         self.marked = self.marked_signs()
 
     def marked_signs(self):
@@ -207,14 +207,15 @@ class Lore:
         """All that is known if one stands ahead of other in a pass, too; None if no world fits."""
         return self.more(known, number, self.pair_bits(number, one, other)[1])
 
-    def has_one_world(self):
-        """Whether all ranks are known."""
+    def open_passes(self):
+        """The numbers of the passes of which not all ranks are known."""
         told = self.classes(self.start)
+        numbers = []
         for number in told:
             lows, belows = class_rows(self.signs, told[number])
             if self.packed(number, lows, belows) & ~self.start:
-                return False
-        return True
+                numbers.append(number)
+        return numbers
 
     def classes(self, known):
         """The classes of each pass with ranks, by its number, in a world that fits."""

@@ -34,7 +34,9 @@ class Node:
     far as it counts for what is still to come, and `told` all that had to be
     known for this step. `tails` are the signs that were read last, `depth` is
     how many steps were made, and the longest of the names that are looked for
-    is at least as long as `floor`.
+    is at least as long as `floor`. `pending` are the steps that are still to
+    be made from there, None as long as none was, and `marks` tell which signs
+    could stand in the places of which. A node that is idle is not gone on with.
     """
 
     def __init__(self, places, states, known):
@@ -47,6 +49,8 @@ class Node:
         self.depth = 0
         self.parent = None
         self.is_idle = False
+        self.pending = None
+        self.marks = []
 
 
 class Outlook:

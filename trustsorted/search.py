@@ -16,11 +16,11 @@ class Search:
     """One search for names that stand to one another as trackers ask for.
 
     The longest of the names that are looked for has to be shorter than
-    `limit`, and how much shorter than `floor` it is does not count.
-    `starts` is what is known of each rule at first. `closers` are
-    the trackers by the name that comes last of those they follow; in this
-    sequence they stand in `trackers`. `best` is the last node of the shortest
-    answer that was found.
+    `limit`; all that are not longer than `floor` count as short as this.
+    `starts` is what is known of each rule at first. `closers` are the numbers
+    of the names that come last of those that each tracker follows; in this
+    sequence the trackers stand. `best` is the last node of the shortest answer
+    that was found.
     """
 
     def __init__(self, setting, lores, trackers, floor, limit):
@@ -30,10 +30,10 @@ class Search:
         self.names = setting.names
         self.lores = lores
         self.starts = tuple([lore.start for lore in lores])
-        self.closers = [
-            [tracker for tracker in trackers if max(tracker.low, tracker.high) == name] for name in self.names
+        self.trackers = [
+            tracker for name in self.names for tracker in trackers if max(tracker.low, tracker.high) == name
         ]
-        self.trackers = [tracker for told in self.closers for tracker in told]
+        self.closers = [max(tracker.low, tracker.high) for tracker in self.trackers]
         self.floor = floor
         self.limit = limit
         self.best = None
@@ -72,38 +72,44 @@ class Search:
             bound = min(list(self.queues))
             if bound >= self.limit:
                 break
-            node = self.queues[bound].pop()
-            if not self.queues[bound]:
-                del self.queues[bound]
-            if not node.is_idle:
-                self.go_on(node, bound)
+            node = self.queues[bound][-1]
+            if node.is_idle or not self.goes_on(node, bound):
+                self.queues[bound].pop()
+                if not self.queues[bound]:
+                    del self.queues[bound]
 
     def enter(self, node):
-        """Keep a node to go on with it, if an answer may come of it that no other one gives."""
+        """Keep a node to go on with it, if an answer may come of it that no other one gives.
+
+        Returns how short this answer may be, ENDLESS if the node is not kept.
+        """
         last = node if self.can_end(node) else self.last_node(node)
         if last is not None:
             if node.floor < self.limit:
                 self.best = last
                 self.limit = node.floor
-            return
+            return ENDLESS
         rest = self.rest(node)
         if rest is None:
-            return
+            return ENDLESS
         bound = max(node.floor, node.depth + rest)
-        if bound < self.limit and self.is_new(node):
-            self.queues.setdefault(bound, []).append(node)
+        if bound >= self.limit or not self.is_new(node):
+            return ENDLESS
+        self.queues.setdefault(bound, []).append(node)
+        return bound
 
     def last_node(self, node):
         """A node behind which all is sure, if all names that are looked for end; None if there is none."""
         if not self.outlook(node.states).is_tied:
             return None
         steps = [((), (), (), node.known)]
-        for name in self.names:
-            choices = self.choices_of(node, name)
-            if name >= self.given:
-                choices = [choice for choice in choices if choice[0] == ENDED]
-            steps = [more for step in steps for choice in choices for more in self.extended(node, step, choice)]
-        return self.child(node, steps[0]) if steps else None
+        while steps:
+            step = steps.pop()
+            if self.is_whole(step):
+                return self.child(node, step)
+            ends = self.is_due(step) or len(step[0]) < self.given
+            steps.extend([more for more in self.further(node, step) if ends or more[0][-1] == ENDED])
+        return None
 
     def rest(self, node):
         """How many signs the longest name will surely have still; None if the names cannot end."""
@@ -136,21 +142,50 @@ class Search:
             least[low] = least[high]
             most[high] = most[low]
 
-    def go_on(self, node, bound):
-        """Read one sign more of each name, in all ways, unless an answer comes up that is as short as can be.
+    def goes_on(self, node, bound):
+        """Read one sign more of each name, in one way after the other, up to one that may be as short.
 
-        A step is (signs, places, states of the trackers, what is known).
+        Returns whether there was one. A step is (signs, places, states of the
+        trackers, what is known).
         """
-        twins = self.twins(node)
-        stack = [((), (), (), node.known)]
-        while stack and bound < self.limit:
-            step = stack.pop()
-            if len(step[0]) == len(self.names):
-                self.enter(self.child(node, step))
+        if node.pending is None:
+            node.pending = [((), (), (), node.known)]
+            node.marks = self.twins(node)
+        while node.pending and bound < self.limit:
+            step = node.pending.pop()
+            if self.is_whole(step):
+                if self.enter(self.child(node, step)) <= bound:
+                    return True
+            elif self.is_due(step):
+                node.pending.extend(self.further(node, step))
             else:
-                for choice in self.choices_of(node, len(step[0])):
-                    if self.is_first_twin(twins, step[0], choice[0]):
-                        stack.extend(self.extended(node, step, choice))
+                node.pending.extend([
+                    more for more in self.further(node, step) if self.is_first_twin(node.marks, step[0], more[0][-1])
+                ])
+        return False
+
+    def is_whole(self, step):
+        """Whether a sign of each name is read in a step, and by all trackers."""
+        return len(step[0]) == len(self.names) and len(step[2]) == len(self.trackers)
+
+    def is_due(self, step):
+        """Whether the signs of a step are to be read by a tracker next."""
+        at = len(step[2])
+        return at < len(self.trackers) and self.closers[at] < len(step[0])
+
+    def further(self, node, step):
+        """The steps with one more sign, or with a tracker that has read them."""
+        letters, places, states, known = step
+        if self.is_due(step):
+            tracker = self.trackers[len(states)]
+            at = tracker.place
+            told = tracker.steps(node.states[len(states)], letters[tracker.low], letters[tracker.high], known[at])
+            return [
+                (letters, places, states + (state,), known[:at] + (more,) + known[at + 1:])
+                for state, more in reversed(told)
+            ]
+        choices = self.choices_of(node, len(letters))
+        return [(letters + (sign,), places + (place,), states, known) for sign, place in choices]
 
     def twins(self, node):
         """For each sign the first one that could stand in its place as well."""
@@ -192,23 +227,6 @@ class Search:
                 met.setdefault((view, after), (sign, after))
         choices = list(met.values())
         return choices + [(ENDED, ENDED)] if self.machine.ends[place] else choices
-
-    def extended(self, node, step, choice):
-        """The steps with one more sign, behind the trackers of this name and earlier ones."""
-        letters = step[0] + (choice[0],)
-        told = [(step[2], step[3])]
-        for tracker in self.closers[len(step[0])]:
-            told = [more for states, known in told for more in self.tracked(node, letters, tracker, states, known)]
-            if not told:
-                return []
-        places = step[1] + (choice[1],)
-        return [(letters, places, states, known) for states, known in told]
-
-    def tracked(self, node, letters, tracker, states, known):
-        """The states of trackers, and what is known, behind the signs for one more tracker."""
-        at = tracker.place
-        steps = tracker.steps(node.states[len(states)], letters[tracker.low], letters[tracker.high], known[at])
-        return [(states + (state,), known[:at] + (more,) + known[at + 1:]) for state, more in steps]
 
     def child(self, node, step):
         """The node behind a step; names that do not count any more are read to their ends."""

@@ -1,16 +1,18 @@
 """Names that stand to one another as trackers ask for, found bit by bit.
 
 Most of what is asked for holds by itself where the rest does. So only what an
-answer breaks is asked for in the next search, at first so that nothing is
-learned of ranks; what has no answer, has none if more is asked for. Single
-names, and pairs of them, are tried ahead of all together, for they are soon
-gone through.
+answer breaks is asked for in the next search, and of as few passes as will do
+something is learned; what has no answer, has none if more is asked for, and
+what has no short one, has no shorter one then. Single names, and pairs of
+them, are tried ahead of all together, for they are soon gone through.
 """
 
 from trustsorted.nodes import Setting
 from trustsorted.search import Search, read_answer
 from trustsorted.simplify import ENDLESS
 from trustsorted.trackers import DONE, ENDED
+
+MOST_LEVEL = 3
 
 
 def letter(numbers, at):
@@ -46,9 +48,10 @@ class Problem:
     """Names to be found that stand to one another as trackers ask for.
 
     `given` are the names that are given, `sought` the numbers of the others.
-    `eased` are the trackers that learn nothing of ranks, and `asked` those
-    that are asked for so far, by their numbers. The longest of the names that
-    are sought has at least as many signs as `floor`.
+    `starts` is what is known of each rule at first. `eased` are for each
+    tracker its variants, those that learn less ahead; `asked` tells for the
+    numbers of some trackers which variant is asked for so far. The longest of
+    the names that are sought has at least as many signs as `floor`.
     """
 
     def __init__(self, house, setting, lores, given, trackers):
@@ -58,7 +61,8 @@ class Problem:
         self.given = given
         self.sought = setting.names[len(given):]
         self.trackers = trackers
-        self.eased = [tracker.without_learning() if tracker.learns else tracker for tracker in trackers]
+        self.starts = [lore.start for lore in lores]
+        self.eased = [tracker.variants() for tracker in trackers]
         self.asked = {}
         self.floor = 0
 
@@ -77,45 +81,87 @@ class Problem:
     def answered(self, told, limit):
         """The same, where but the trackers with some numbers count."""
         while True:
-            answer = self.searched([self.asked[at] for at in told if at in self.asked], limit)
-            if answer is None or not self.broken(told, answer[0], answer[1]):
-                return answer
+            search = Search(self.setting, self.lores, self.asked_ones(told), self.floor, limit)
+            search.run()
+            if search.best is None:
+                return None
+            self.floor = search.limit
+            names, known = read_answer(search.best, self.house.signs)
+            names = list(self.given) + names[len(self.given):]
+            numbers = [[self.house.signs.index(sign) for sign in name] for name in names]
+            for some in (known, list(self.starts)):
+                if self.first_break(told, MOST_LEVEL, numbers, some) is None:
+                    return names, some
+            if not self.asks_alone(told, numbers) and not self.asks_together(told, numbers):
+                self.asks_more(told)
 
-    def searched(self, trackers, limit):
-        """The same for some trackers."""
-        search = Search(self.setting, self.lores, trackers, self.floor, limit)
-        search.run()
-        if search.best is None:
-            return None
-        self.floor = search.limit
-        names, known = read_answer(search.best, self.house.signs)
-        return list(self.given) + names[len(self.given):], known
+    def asked_ones(self, told):
+        """The trackers with some numbers that are asked for, eased as they are so far."""
+        return [self.variant(at, self.asked[at]) for at in told if at in self.asked]
 
-    def broken(self, told, names, known):
-        """Whether some of the trackers break, of those with some numbers; then some of these are asked for.
+    def variant(self, at, level):
+        """The variant of a tracker with this number, the last one if there are not so many."""
+        return self.eased[at][min(level, len(self.eased[at]) - 1)]
 
-        What the other ones need is added to what is known. Those that learn
-        something of ranks are asked for one by one, if no others break.
+    def fit(self, at, level, numbers, known):
+        """What has to be known so that the names stand as a variant of a tracker asks for; None if they cannot."""
+        tracker = self.variant(at, level)
+        return fitted(tracker, numbers[tracker.low], numbers[tracker.high], known)
+
+    def first_break(self, told, level, numbers, known):
+        """The number of the first tracker that breaks, behind those ahead of it; None if none does.
+
+        What the other ones need is added to what is known.
         """
-        numbers = [[self.house.signs.index(sign) for sign in name] for name in names]
-        broken = []
         for at in told:
-            tracker = self.trackers[at]
-            more = fitted(tracker, numbers[tracker.low], numbers[tracker.high], known[tracker.place])
+            place = self.trackers[at].place
+            more = self.fit(at, level, numbers, known[place])
             if more is None:
-                broken.append(at)
-            else:
-                known[tracker.place] = more
-        is_eased = False
-        for at in broken:
-            tracker = self.eased[at]
-            start = self.lores[tracker.place].start
-            if at not in self.asked and fitted(tracker, numbers[tracker.low], numbers[tracker.high], start) is None:
-                self.asked[at] = tracker
-                is_eased = True
-        if broken and not is_eased:
-            self.asked[broken[0]] = self.trackers[broken[0]]
-        return bool(broken)
+                return at
+            known[place] = more
+        return None
+
+    def asks_alone(self, told, numbers):
+        """Ask for trackers that break by themselves, by the first variant that does; whether there are some."""
+        is_asked = False
+        for at in told:
+            start = self.starts[self.trackers[at].place]
+            if self.fit(at, MOST_LEVEL, numbers, start) is None:
+                level = self.asked.get(at, -1) + 1
+                while self.fit(at, level, numbers, start) is not None:
+                    level = level + 1
+                self.asked[at] = level
+                is_asked = True
+        return is_asked
+
+    def asks_together(self, told, numbers):
+        """Ask for trackers that break together, by the first variants that do; whether some are asked for anew."""
+        level = 0
+        while self.first_break(told, level, numbers, list(self.starts)) is None:
+            level = level + 1
+        is_asked = False
+        for at in self.broken(told, level, numbers):
+            if self.asked.get(at, -1) < min(level, len(self.eased[at]) - 1):
+                self.asked[at] = level
+                is_asked = True
+        return is_asked
+
+    def broken(self, told, level, numbers):
+        """Trackers that break together, without those that can be left out; what is asked for stays rather."""
+        kept = list(told)
+        for asked, at in sorted([(self.asked.get(at, -1), at) for at in told]):
+            fewer = [other for other in kept if other != at]
+            if self.first_break(fewer, level, numbers, list(self.starts)) is not None:
+                kept = fewer
+        return kept
+
+    def asks_more(self, told):
+        """Ask for one more tracker, or for a later variant of one."""
+        for at in told:
+            level = self.asked.get(at, -1) + 1
+            if level < len(self.eased[at]):
+                self.asked[at] = level
+                break
 
 
 def shortest_answer(house, lores, given, many, ways):

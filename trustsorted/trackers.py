@@ -33,13 +33,17 @@ class Tracker:
         self.ranked = [number for number, word in enumerate(lore.words) if word != "length"]
         self.first = (EVEN,)
         self.is_even = False
-        self.learns = not lore.is_full
+        self.learned = len(lore.words)
         self.stepped = {}
         self.viewed = {}
 
-    def without_learning(self):
-        """A tracker that learns nothing of ranks: it takes what is open, each time anew, as it is best."""
-        return self
+    def variants(self):
+        """Trackers that learn nothing of ranks, then of ever more passes, this one last.
+
+        Of passes from `learned` on a tracker learns nothing: what is open
+        there it takes, each time anew, as it is best.
+        """
+        return [self]
 
     def looked_at(self, state):
         """The numbers of the passes in which signs are still looked at."""
@@ -111,11 +115,12 @@ class Tie(Tracker):
 class Split(Tracker):
     """Follows two names that have to be unlike: by their lengths, or by any place in any pass."""
 
-    def without_learning(self):
-        """A tracker that learns nothing of ranks."""
-        told = Split(self.lore, self.place, self.low, self.high)
-        told.learns = False
-        return told
+    def variants(self):
+        """The variants, those that learn less ahead."""
+        told = [Split(self.lore, self.place, self.low, self.high) for learned in self.lore.levels]
+        for tracker, learned in zip(told, self.lore.levels):
+            tracker.learned = learned
+        return told + [self]
 
     def can_end(self, state):
         """Whether both names can end here, if they did not yet."""
@@ -127,11 +132,12 @@ class Split(Tracker):
             return [(DONE, known)]
         if low == high:
             return [(state, known)]
-        if not self.learns:
-            open_ones = [number for number in self.ranked if not self.lore.is_alike(known, number, low, high)]
-            return [(DONE if open_ones else state, known)]
         told = [(state, known)]
         for number in self.ranked:
+            if number >= self.learned:
+                if not self.lore.is_alike(known, number, low, high):
+                    return [(DONE, known)]
+                continue
             for one, other in ((low, high), (high, low)):
                 more = self.lore.with_before(known, number, one, other)
                 if more == known:
@@ -157,11 +163,12 @@ class Lead(Tracker):
         self.is_loose = is_loose
         self.first = tuple([EVEN for word in lore.words])
 
-    def without_learning(self):
-        """A tracker that learns nothing of ranks."""
-        told = Lead(self.lore, self.place, self.low, self.high, self.is_loose)
-        told.learns = False
-        return told
+    def variants(self):
+        """The variants, those that learn less ahead."""
+        told = [Lead(self.lore, self.place, self.low, self.high, self.is_loose) for learned in self.lore.levels]
+        for tracker, learned in zip(told, self.lore.levels):
+            tracker.learned = learned
+        return told + [self]
 
     def looked_at(self, state):
         """The numbers of the passes in which signs are still looked at."""
@@ -246,12 +253,12 @@ class Lead(Tracker):
         if alike == known:
             return [(EVEN, known)]
         behind = self.lore.with_before(known, number, high, low)
-        return self.open_steps(((LESS, before), (EVEN, alike), (LOST, behind)), known)
+        return self.open_steps(number, ((LESS, before), (EVEN, alike), (LOST, behind)), known)
 
-    def open_steps(self, told, known):
+    def open_steps(self, number, told, known):
         """The steps of those told, the better ones ahead, that can be; but the best one, if nothing is learned."""
         steps = [(code, more) for code, more in told if more is not None]
-        return steps if self.learns else [(steps[0][0], known)]
+        return steps if number < self.learned else [(steps[0][0], known)]
 
     def figure_steps(self, number, code, low, high, known):
         """The steps of a pass figures."""
@@ -283,4 +290,4 @@ class Lead(Tracker):
             lost = self.lore.with_low(known, number, high, low)
         if less == known or lost == known:
             return [(BACK_LESS if less == known else BACK_LOST, known)]
-        return self.open_steps(((BACK_LESS, less), (BACK_LOST, lost)), known)
+        return self.open_steps(number, ((BACK_LESS, less), (BACK_LOST, lost)), known)
