@@ -13,6 +13,7 @@ from trustsorted.simplify import ENDLESS
 from trustsorted.trackers import DONE, ENDED
 
 MOST_LEVEL = 3
+MOST_STEPS = 5000
 
 
 def letter(numbers, at):
@@ -20,16 +21,25 @@ def letter(numbers, at):
     return numbers[at] if at < len(numbers) else ENDED
 
 
-def fitted(tracker, low, high, known):
-    """What has to be known so that two names stand as a tracker asks for; None if they cannot."""
-    stack = [(0, tracker.first, known)]
+def fitted(trackers, numbers, known):
+    """What has to be known of a rule so that names stand as its trackers ask for.
+
+    The names are told by the numbers of their signs. None if they cannot stand
+    so, or if it takes too many steps to tell.
+    """
+    firsts = [tracker.first for tracker in trackers] + [DONE]
+    stack = [(0, 0, firsts[0], known)]
     met = {}
-    while stack:
-        at, state, some = stack.pop()
-        if state == DONE:
+    while stack and len(met) < MOST_STEPS:
+        number, at, state, some = stack.pop()
+        if number == len(trackers):
             return some
-        for after, more in tracker.steps(state, letter(low, at), letter(high, at), some):
-            told = (at + 1, after, more)
+        tracker = trackers[number]
+        low, high = letter(numbers[tracker.low], at), letter(numbers[tracker.high], at)
+        for after, more in reversed(tracker.steps(state, low, high, some)):
+            told = (number, at + 1, after, more)
+            if after == DONE:
+                told = (number + 1, 0, firsts[number + 1], more)
             if told not in met:
                 met[told] = True
                 stack.append(told)
@@ -89,9 +99,10 @@ class Problem:
             names, known = read_answer(search.best, self.house.signs)
             names = list(self.given) + names[len(self.given):]
             numbers = [[self.house.signs.index(sign) for sign in name] for name in names]
-            for some in (known, list(self.starts)):
-                if self.first_break(told, MOST_LEVEL, numbers, some) is None:
-                    return names, some
+            for some in (known, self.starts):
+                more = self.fit(told, MOST_LEVEL, numbers, some)
+                if more is not None:
+                    return names, more
             if not self.asks_alone(told, numbers) and not self.asks_together(told, numbers):
                 self.asks_more(told)
 
@@ -103,32 +114,24 @@ class Problem:
         """The variant of a tracker with this number, the last one if there are not so many."""
         return self.eased[at][min(level, len(self.eased[at]) - 1)]
 
-    def fit(self, at, level, numbers, known):
-        """What has to be known so that the names stand as a variant of a tracker asks for; None if they cannot."""
-        tracker = self.variant(at, level)
-        return fitted(tracker, numbers[tracker.low], numbers[tracker.high], known)
-
-    def first_break(self, told, level, numbers, known):
-        """The number of the first tracker that breaks, behind those ahead of it; None if none does.
-
-        What the other ones need is added to what is known.
-        """
-        for at in told:
-            place = self.trackers[at].place
-            more = self.fit(at, level, numbers, known[place])
+    def fit(self, told, level, numbers, known):
+        """What has to be known of each rule so that names stand as variants ask for; None if they cannot."""
+        found = []
+        for place, some in enumerate(known):
+            rows = [self.variant(at, level) for at in told if self.trackers[at].place == place]
+            more = fitted(rows, numbers, some)
             if more is None:
-                return at
-            known[place] = more
-        return None
+                return None
+            found.append(more)
+        return found
 
     def asks_alone(self, told, numbers):
         """Ask for trackers that break by themselves, by the first variant that does; whether there are some."""
         is_asked = False
         for at in told:
-            start = self.starts[self.trackers[at].place]
-            if self.fit(at, MOST_LEVEL, numbers, start) is None:
+            if self.fit([at], MOST_LEVEL, numbers, self.starts) is None:
                 level = self.asked.get(at, -1) + 1
-                while self.fit(at, level, numbers, start) is not None:
+                while self.fit([at], level, numbers, self.starts) is not None:
                     level = level + 1
                 self.asked[at] = level
                 is_asked = True
@@ -137,7 +140,7 @@ class Problem:
     def asks_together(self, told, numbers):
         """Ask for trackers that break together, by the first variants that do; whether some are asked for anew."""
         level = 0
-        while self.first_break(told, level, numbers, list(self.starts)) is None:
+        while self.fit(told, level, numbers, self.starts) is not None:
             level = level + 1
         is_asked = False
         for at in self.broken(told, level, numbers):
@@ -151,7 +154,7 @@ class Problem:
         kept = list(told)
         for asked, at in sorted([(self.asked.get(at, -1), at) for at in told]):
             fewer = [other for other in kept if other != at]
-            if self.first_break(fewer, level, numbers, list(self.starts)) is not None:
+            if self.fit(fewer, level, numbers, self.starts) is None:
                 kept = fewer
         return kept
 
