@@ -1,6 +1,7 @@
 """Where a search for names stands, and what still counts there."""
 
-from trustsorted.simplify import chained, longest_rests, shortest_tails, simplified
+from trustsorted.lengths import rest_lengths
+from trustsorted.simplify import chained, shortest_tails, simplified
 from trustsorted.trackers import DONE
 
 
@@ -9,7 +10,7 @@ class Setting:
 
     The names are told by their numbers: first those that are given, as many
     as `given`, then those that are looked for. For the states of the machine,
-    `tails` tells shortest rests of names, and `longest` how long the rests
+    `tails` tells shortest rests of names, and `lengths` how long the rests
     can be. `columns` are the moves of each sign, `free_columns` those without
     the names that are given.
     """
@@ -21,7 +22,7 @@ class Setting:
         self.names = list(range(len(given) + many))
         self.machine, self.begins = chained(free, [[house.signs.index(sign) for sign in name] for name in given])
         self.tails = shortest_tails(self.machine)
-        self.longest = longest_rests(self.machine)
+        self.lengths = rest_lengths(self.machine)
         self.columns = [tuple([row[sign] for row in self.machine.moves]) for sign in signs]
         self.free_columns = [tuple([row[sign] for row in free.moves]) for sign in signs]
 

@@ -7,6 +7,7 @@ finitely many of them, and when all are gone through there are no such names
 of any length.
 """
 
+from trustsorted.lengths import least_of, up_to
 from trustsorted.nodes import Node, Outlook
 from trustsorted.simplify import ENDLESS
 from trustsorted.trackers import DONE, ENDED
@@ -119,28 +120,32 @@ class Search:
         return self.rests[key]
 
     def new_rest(self, node):
-        """The same, worked out by the lengths that names must have beside one another."""
-        least = [0 if place == ENDED else len(self.setting.tails[place]) for place in node.places]
-        most = [ENDLESS if place == ENDED else self.setting.longest[place] for place in node.places]
-        for _ in range(len(self.names) + 1):
-            earlier = least + most
-            for tracker, state in zip(self.trackers, node.states):
-                if state != DONE:
-                    self.bind(least, most, tracker, state)
-            if least + most == earlier and all([least[name] <= most[name] for name in self.names]):
-                return max(least[self.given:] + [1])
-        return None
+        """The same, worked out by the lengths that names can have beside one another."""
+        lengths = [1 if place == ENDED else self.setting.lengths[place] for place in node.places]
+        told = self.lengths_beside(node.states, lengths)
+        if told is None:
+            return None
+        most = max([1] + [least_of(some) for some in told[self.given:]])
+        while self.lengths_beside(node.states, lengths[:self.given] + self.shortened(lengths, most)) is None:
+            most = most + 1
+        return most
 
-    def bind(self, least, most, tracker, state):
-        """Bind the lengths of two names that a tracker follows to one another."""
-        low, high = tracker.low, tracker.high
-        gap = 0 if tracker.is_even else tracker.least_gap(state)
-        if gap is not None:
-            least[high] = max(least[high], least[low] + gap)
-            most[low] = min(most[low], most[high] - gap)
-        if tracker.is_even:
-            least[low] = least[high]
-            most[high] = most[low]
+    def shortened(self, lengths, most):
+        """The lengths of the names that are looked for, up to a greatest one."""
+        return [told & up_to(most) for told in lengths[self.given:]]
+
+    def lengths_beside(self, states, lengths):
+        """Those of some lengths that the rests of names can have beside one another; None if there are none."""
+        told = list(lengths)
+        earlier = []
+        while earlier != told:
+            earlier = list(told)
+            for tracker, state in zip(self.trackers, states):
+                if state != DONE and told[tracker.low] and told[tracker.high]:
+                    low, high = tracker.beside(state, told[tracker.low], told[tracker.high])
+                    told[tracker.low] = low
+                    told[tracker.high] = high
+        return told if all([some > 0 for some in told]) else None
 
     def goes_on(self, node, bound):
         """Read one sign more of each name, in one way after the other, up to one that may be as short.

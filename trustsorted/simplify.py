@@ -80,19 +80,3 @@ def shortest_tails(machine):
                     found[state] = (sign,) + tails[known[0]]
         tails.update(found)
     return tails
-
-
-def longest_rests(machine):
-    """For each state the number of signs of a longest rest of a name, ENDLESS if there is none.
-
-    A rest with as many signs as there are states goes round, and can do so
-    again.
-    """
-    many = len(machine.ends)
-    rests = [0] * many
-    for _ in range(many):
-        rests = [
-            max([1 + rests[after] for afters in machine.moves[state] for after in afters], default=0)
-            for state in range(many)
-        ]
-    return [ENDLESS if rest >= many else rest for rest in rests]

@@ -3,8 +3,9 @@
 Most of what is asked for holds by itself where the rest does. So only what an
 answer breaks is asked for in the next search, and of as few passes as will do
 something is learned; what has no answer, has none if more is asked for, and
-what has no short one, has no shorter one then. Single names, and pairs of
-them, are tried ahead of all together, for they are soon gone through.
+what has no short one, has no shorter one then. Single names, pairs of them, and
+all without those that are given are tried ahead of all together, for they are
+sooner gone through.
 """
 
 from trustsorted.nodes import Setting
@@ -79,14 +80,19 @@ class Problem:
     def solved(self, limit):
         """(names, what is known of each rule) with shortest names, None if there are none below a limit."""
         answer = None
-        for rows in subsets(self.sought):
-            names = self.setting.names[:len(self.given)] + list(rows)
+        for names in self.groups():
             told = [at for at, tracker in enumerate(self.trackers) if tracker.low in names and tracker.high in names]
-            if told or len(rows) == len(self.sought):
+            if told or names == self.setting.names:
                 answer = self.answered(told, limit)
                 if answer is None:
                     return None
         return answer
+
+    def groups(self):
+        """The names that are tried together, in this sequence, by their numbers."""
+        first = self.setting.names[:len(self.given)]
+        groups = [first + list(rows) for rows in subsets(self.sought)]
+        return groups[:-1] + [self.sought] + groups[-1:] if first else groups
 
     def answered(self, told, limit):
         """The same, where but the trackers with some numbers count."""

@@ -9,6 +9,8 @@ States are tuples with a code for each pass that is still followed, DONE if
 nothing that comes can make a difference.
 """
 
+from trustsorted.lengths import ordered, unequal
+
 ENDED = -1
 
 DONE = ()
@@ -32,7 +34,6 @@ class Tracker:
         self.high = high
         self.ranked = [number for number, word in enumerate(lore.words) if word != "length"]
         self.first = (EVEN,)
-        self.is_even = False
         self.learned = len(lore.words)
         self.stepped = {}
         self.viewed = {}
@@ -71,9 +72,9 @@ class Tracker:
             self.viewed[state] = views
         return self.viewed[state]
 
-    def least_gap(self, state):
-        """By how many signs the second name is surely longer at least, None if that is not sure."""
-        return None
+    def beside(self, state, low, high):
+        """Those of some lengths that the rests of both names can have beside one another."""
+        return low, high
 
     def can_end(self, state):
         """Whether both names can end here, if they did not yet."""
@@ -98,9 +99,9 @@ class Tracker:
 class Tie(Tracker):
     """Follows two names that have to be alike: all passes call all their signs alike."""
 
-    def __init__(self, lore, place, low, high):
-        Tracker.__init__(self, lore, place, low, high)
-        self.is_even = True
+    def beside(self, state, low, high):
+        """Those of some lengths that the rests of both names can have beside one another."""
+        return low & high, low & high
 
     def new_steps(self, state, low, high, known):
         """The steps behind two signs, where not both names have ended."""
@@ -121,6 +122,10 @@ class Split(Tracker):
         for tracker, learned in zip(told, self.lore.levels):
             tracker.learned = learned
         return told + [self]
+
+    def beside(self, state, low, high):
+        """Those of some lengths that the rests of both names can have beside one another."""
+        return (low, high) if self.ranked else unequal(low, high)
 
     def can_end(self, state):
         """Whether both names can end here, if they did not yet."""
@@ -183,11 +188,11 @@ class Lead(Tracker):
         told = list(zip(self.lore.words, state))
         return any([word == "figures" and code in (EVEN, RUN, RUN_LESS, RUN_LOST) for word, code in told])
 
-    def least_gap(self, state):
-        """By how many signs the second name is surely longer at least, None if that is not sure."""
-        if not state or self.lore.words[0] != "length":
-            return None
-        return 1 if len(state) > 1 and state[1] == LOST else 0
+    def beside(self, state, low, high):
+        """Those of some lengths that the rests of both names can have beside one another."""
+        if self.lore.words[0] != "length":
+            return low, high
+        return ordered(low, high, 1 if len(state) > 1 and state[1] == LOST else 0)
 
     def is_at_least(self, state, other):
         """Whether whatever can follow another state so that all holds can follow a state, too."""
