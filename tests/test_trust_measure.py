@@ -3,12 +3,14 @@
 import functools
 import random
 import unittest
+import unittest.mock
 
 from tests.draws import draw_house
 from tests.loads import FILES, wrong_load
 from tests.measure import most_length
 from tests.plain import Plain, all_names, rule_worlds
 from tests.test_trust import measure
+from trustsorted import solving
 from trustsorted.houses import House
 from trustsorted.trust import trust
 
@@ -115,6 +117,18 @@ class TrustMeasureTest(unittest.TestCase):
     def test_more_worlds(self):
         for word in FILES:
             self.measure(word, 6000, 6006, 2, 400)
+
+    def test_where_it_takes_long_to_tell_whether_names_fit(self):
+        """What is told does not change if this is given up early: then the search itself has to find out."""
+        for word in FILES:
+            for seed in range(7000, 7020):
+                drawn = random.Random(seed)
+                text, rules, hidden = draw_text(drawn, 3, 1000)
+                question = draw_question(drawn, word, text, rules, hidden)
+                least = measure(House(text), *question)
+                for most in (0, 1, 10):
+                    with unittest.mock.patch.object(solving, "MOST_STEPS", most):
+                        self.assertEqual(measure(House(text), *question), least, (text, question, most))
 
     def test_forms_with_ends_of_many_lengths(self):
         """What ends late may stand where the search comes early: it is not to hide what ends early."""

@@ -110,7 +110,8 @@ class Problem:
                 if more is not None:
                     return names, more
             if not self.asks_alone(told, numbers) and not self.asks_together(told, numbers):
-                self.asks_more(told)
+                if not self.asks_more(told):
+                    return names, known
 
     def asked_ones(self, told):
         """The trackers with some numbers that are asked for, eased as they are so far."""
@@ -135,8 +136,8 @@ class Problem:
         """Ask for trackers that break by themselves, by the first variant that does; whether there are some."""
         is_asked = False
         for at in told:
-            if self.fit([at], MOST_LEVEL, numbers, self.starts) is None:
-                level = self.asked.get(at, -1) + 1
+            level = self.asked.get(at, -1) + 1
+            if level < len(self.eased[at]) and self.fit([at], MOST_LEVEL, numbers, self.starts) is None:
                 while self.fit([at], level, numbers, self.starts) is not None:
                     level = level + 1
                 self.asked[at] = level
@@ -158,19 +159,20 @@ class Problem:
     def broken(self, told, level, numbers):
         """Trackers that break together, without those that can be left out; what is asked for stays rather."""
         kept = list(told)
-        for asked, at in sorted([(self.asked.get(at, -1), at) for at in told]):
+        for _, at in sorted([(self.asked.get(at, -1), at) for at in told]):
             fewer = [other for other in kept if other != at]
             if self.fit(fewer, level, numbers, self.starts) is None:
                 kept = fewer
         return kept
 
     def asks_more(self, told):
-        """Ask for one more tracker, or for a later variant of one."""
+        """Ask for one more tracker, or for a later variant of one; whether there is one."""
         for at in told:
             level = self.asked.get(at, -1) + 1
             if level < len(self.eased[at]):
                 self.asked[at] = level
-                break
+                return True
+        return False
 
 
 def shortest_answer(house, lores, given, many, ways):
