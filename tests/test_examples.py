@@ -1,4 +1,4 @@
-"""The examples of sections 4 to 8 of the document, word for word."""
+"""The examples of the document, word for word."""
 
 import doctest
 import unittest
@@ -45,6 +45,25 @@ EXAMPLES = r"""
 >>> gone = lost(folded, 'exact', 'value')
 >>> ['12' in gone, '2' in gone, gone.shortest, lost(folded, 'fine', 'loose').shortest]
 [True, True, 'a', None]
+>>> from trustsorted.mending import cheapest
+>>> from trustsorted.works import results, weak, Work
+>>> lines = 'file old by exact\nfile new by fine\nkeep once by loose of old\nboth all by loose of new and once\nfind hit by loose of all for Ab'
+>>> mill = Work(folded, lines)
+>>> [mill.promise('all'), mill.promise('once'), mill.tool('once'), results(mill, (('A', 'Ab', 'a'), ('ab',)))]
+[('fine', (), ()), ('exact', ('loose',), ()), ('keep', 'loose'), (('A', 'Ab', 'a'), ('ab',), ('A', 'Ab', 'a'), ('ab',), True)]
+>>> [weak(mill, ())[:2], cheapest(mill, (), ((('by', 1, 'fine'), 4), (('sort', 3), 5)))[:3]]
+[('weak', 3), ('choice', 4, (('by', 1, 'fine'),))]
+>>> from trustsorted.benches import Bench
+>>> bench = Bench(dim)
+>>> bench.add('file a by shell')
+>>> bench.add('keep b by cloud of a')
+>>> bench.see('cloud', ('a-', 'a1'))
+>>> [bench.weak()[:2], bench.tried(lambda held: held.see('cloud', ('1', '-'))), bench.done, bench.possible('cloud', '-', '1'), bench.journal[2]]
+[('weak', 2), None, 3, ('alike', 'before'), 'see cloud a- a1']
+>>> from trustsorted.desk import Desk
+>>> desk = Desk(text)
+>>> [desk.say('add file a by phone'), desk.say('order cloud a- a1'), desk.say('trust phone phone'), desk.say('weak')]
+['done', 'alike before behind', 'yes', 'sound']
 """
 
 
@@ -52,7 +71,7 @@ class ExamplesTest(unittest.TestCase):
 
     def test_examples(self):
         example = doctest.DocTestParser().get_doctest(EXAMPLES, {}, "examples", None, 0)
-        self.assertEqual(len(example.examples), 28)
+        self.assertEqual(len(example.examples), 43)
         runner = doctest.DocTestRunner(verbose=False)
         self.assertEqual(runner.run(example).failed, 0)
 

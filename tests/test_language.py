@@ -24,7 +24,7 @@ SPECIAL = set((
     "__iadd__ __isub__ __or__ __and__ __sub__ __invert__ __name__"
 ).split())
 
-KEYWORDS = [("sorted", ("key",)), ("min", ("key",)), ("max", ("default",)), ("min", ("default",))]
+KEYWORDS = [("sorted", ("key",)), ("min", ("key",)), ("max", ("default",)), ("min", ("default",)), ("enumerate", ("start",))]
 
 STATEMENTS = (
     ast.Assign, ast.AugAssign, ast.If, ast.While, ast.For, ast.Return, ast.Break, ast.Continue, ast.Pass, ast.Raise,
@@ -195,7 +195,7 @@ class LanguageTest(unittest.TestCase):
             if isinstance(node.ctx, ast.Store):
                 attributes.setdefault(node.attr, place)
         for word in list(methods) + list(attributes):
-            self.assertNotIn(word, TAKEN, word)
+            self.assertTrue(word not in TAKEN or word in METHODS and word in methods, word)
         self.assertEqual(sorted(set(methods) & set(attributes)), [])
 
     def test_keyword_arguments_of_builtins(self):
@@ -216,6 +216,72 @@ class LanguageTest(unittest.TestCase):
                 self.assertTrue(id(node) in allowed, place)
         for place, node in self.nodes(ast.Set, ast.SetComp):
             self.fail(place)
+
+    def test_what_is_read_backwards_is_a_list(self):
+        """A class of the package has items by number, so only what is plainly no such object may be read backwards."""
+        for place, node in self.nodes(ast.Call):
+            if getattr(node.func, "id", "") == "reversed":
+                self.assertIn(getattr(getattr(node.args[0], "func", None), "id", ""), ("list", "tuple", "sorted", "range"), place)
+
+    def test_nothing_is_assigned_in_place(self):
+        for place, node in self.nodes(ast.AugAssign):
+            self.fail(place)
+
+    def test_classes_with_items_by_number_cannot_be_gone_over(self):
+        for place, node in self.nodes(ast.ClassDef):
+            methods = {part.name: part for part in node.body if isinstance(part, ast.FunctionDef)}
+            if "__getitem__" in methods:
+                body = methods["__iter__"].body
+                self.assertEqual([type(row) for row in body], [ast.Raise], place)
+                self.assertEqual(body[0].exc.func.id, "TypeError", place)
+            self.assertNotIn("keys", methods, place)
+
+    def test_leaving_a_block(self):
+        """Behind a block stand but plain assignments of attributes, and tests of None."""
+        for place, node in self.nodes(ast.FunctionDef):
+            if node.name == "__exit__":
+                self.assertEqual([told.arg for told in node.args.args[1:2]], ["kind"], place)
+                for row in node.body:
+                    self.assert_plain(row, place)
+
+    def assert_plain(self, row, place):
+        if isinstance(row, ast.If):
+            for part in ast.walk(row.test):
+                self.assertIsInstance(
+                    part, (ast.BoolOp, ast.And, ast.Or, ast.Compare, ast.Is, ast.IsNot, ast.Name, ast.Attribute, ast.Constant, ast.Load), place)
+            for inner in row.body + row.orelse:
+                self.assert_plain(inner, place)
+        else:
+            self.assertIsInstance(row, ast.Assign, place)
+            self.assertIsInstance(row.value, ast.Attribute, place)
+            self.assertEqual(row.value.value.id, "self", place)
+
+    def test_attributes_that_are_read_are_assigned(self):
+        own = {node.name for _, node in self.nodes(ast.FunctionDef)}
+        assigned = {node.attr for _, node in self.nodes(ast.Attribute) if isinstance(node.ctx, ast.Store)}
+        for place, node in self.nodes(ast.Attribute):
+            if isinstance(node.ctx, ast.Load):
+                self.assertIn(node.attr, assigned | own | METHODS | {"__init__"}, place)
+
+    def test_errors_that_are_caught_are_the_own_ones(self):
+        raised = {node.name for _, node in self.nodes(ast.ClassDef)}
+        for place, node in self.nodes(ast.ExceptHandler):
+            self.assertIn(node.type.id, raised, place)
+            self.assertIsNone(node.name, place)
+        for place, node in self.nodes(ast.Raise):
+            self.assertIsInstance(node.exc, ast.Call, place)
+            self.assertIn(node.exc.func.id, raised | {"TypeError"}, place)
+
+    def test_arguments_of_own_functions(self):
+        told = {}
+        for name, _, tree in parsed():
+            for node in tree.body:
+                if isinstance(node, ast.FunctionDef):
+                    told[node.name] = len(node.args.args) if not node.args.defaults else None
+        for place, node in self.nodes(ast.Call):
+            many = told.get(getattr(node.func, "id", ""))
+            if many is not None:
+                self.assertEqual((len(node.args), node.keywords), (many, []), place)
 
     def test_ranges_and_zips_are_gone_through_at_once(self):
         allowed = set()

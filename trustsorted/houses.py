@@ -3,7 +3,7 @@
 from trustsorted.checks import check_full, check_name, check_rows, check_rule
 from trustsorted.errors import NoRule
 from trustsorted.forms import free_machine, machine_of
-from trustsorted.keys import name_key
+from trustsorted.keys import name_key, row_keys
 from trustsorted.reading import read_house
 from trustsorted.worlds import keeps_facts, lore_of, stands_for, world_text
 
@@ -61,7 +61,12 @@ def listed(house, rule, rows):
     check_full(house)
     check_rule(house, rule)
     check_rows(house, rows)
-    keys = sorted([(name_key(house.passes(rule), row), at) for at, row in enumerate(rows)])
+    return told_listed(house, rule, rows)
+
+
+def told_listed(house, rule, rows):
+    """The rows sorted by the rule, however many and long they are."""
+    keys = sorted([(key, at) for at, key in enumerate(row_keys(house.passes(rule), rows))])
     return tuple([rows[at] for key, at in keys])
 
 
@@ -70,7 +75,7 @@ def is_listed(house, rule, rows):
     check_full(house)
     check_rule(house, rule)
     check_rows(house, rows)
-    keys = [name_key(house.passes(rule), row) for row in rows]
+    keys = row_keys(house.passes(rule), rows)
     return all([keys[at] <= keys[at + 1] for at in range(len(keys) - 1)])
 
 

@@ -37,3 +37,9 @@ def pass_key(told, name):
 def name_key(passes, name):
     """What a name is sorted by, by a rule with these passes."""
     return tuple([pass_key(told, name) for told in passes])
+
+
+def row_keys(passes, rows):
+    """What rows are sorted by; those that are the same are worked out once."""
+    keys = {row: name_key(passes, row) for row in sorted(set(rows))}
+    return [keys[row] for row in rows]

@@ -187,7 +187,7 @@ class Search:
             told = tracker.steps(node.states[len(states)], letters[tracker.low], letters[tracker.high], known[at])
             return [
                 (letters, places, states + (state,), known[:at] + (more,) + known[at + 1:])
-                for state, more in reversed(told)
+                for state, more in reversed(list(told))
             ]
         choices = self.choices_of(node, len(letters))
         return [(letters + (sign,), places + (place,), states, known) for sign, place in choices]

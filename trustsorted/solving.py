@@ -37,7 +37,7 @@ def fitted(trackers, numbers, known):
             return some
         tracker = trackers[number]
         low, high = letter(numbers[tracker.low], at), letter(numbers[tracker.high], at)
-        for after, more in reversed(tracker.steps(state, low, high, some)):
+        for after, more in reversed(list(tracker.steps(state, low, high, some))):
             told = (number, at + 1, after, more)
             if after == DONE:
                 told = (number + 1, 0, firsts[number + 1], more)

@@ -1,12 +1,12 @@
 """Tools that go along files by a rule, promises of files, and what is meant by a tool."""
 
 from trustsorted.checks import check_full, check_load, check_promise, check_rows, check_rule, check_tool
-from trustsorted.keys import name_key
+from trustsorted.keys import row_keys
 
 
 def keys_by(house, rule, rows):
     """What the rows are sorted by, by a rule of a house without known."""
-    return [name_key(house.passes(rule), row) for row in rows]
+    return row_keys(house.passes(rule), rows)
 
 
 def kept_once(keys):

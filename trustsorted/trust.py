@@ -80,17 +80,43 @@ def shortest_load(house, lores, stage):
     return House(world_text(house, lores, told)), load
 
 
-def trust(house, seen, promises, tool):
-    """Whether a tool does what is meant with all files that keep promises, or a least load that deceives it."""
+class Judge:
+    """Tells of tools whether they can be trusted by what was seen, of each question once."""
+
+    def __init__(self, house, seen):
+        self.house = house
+        self.seen = seen
+        self.lores = fitting_lore(house, seen)
+        self.verdicts = {}
+
+    def verdict(self, promises, tool):
+        """What trust tells."""
+        key = (promises, tool)
+        if key not in self.verdicts:
+            self.verdicts[key] = self.new_verdict(promises, tool)
+        return self.verdicts[key]
+
+    def new_verdict(self, promises, tool):
+        """The same, worked out."""
+        for stage in deceits_of(promises, tool):
+            found = shortest_load(self.house, self.lores, stage)
+            if found is not None:
+                return ("deceived",) + found
+        return ("right",)
+
+
+def judge_of(house, seen, promises, tool):
+    """The judge of what was seen; refuses what is no question."""
     check_seen(house, seen)
-    lores = fitting_lore(house, seen)
+    judge = Judge(house, seen)
     check_tool(house, tool)
     check_promises(house, tool, promises)
-    for stage in deceits_of(promises, tool):
-        found = shortest_load(house, lores, stage)
-        if found is not None:
-            return ("deceived",) + found
-    return ("right",)
+    return judge
+
+
+def trust(house, seen, promises, tool):
+    """Whether a tool does what is meant with all files that keep promises, or a least load that deceives it."""
+    return judge_of(house, seen, promises, tool).verdict(promises, tool)
 
 
 def measures(load):
@@ -104,18 +130,24 @@ def is_rows(house, value):
     return isinstance(value, tuple) and all([has_name(house, row) for row in value])
 
 
-def shows_trust(house, seen, promises, tool, value):
-    """Whether any value is what trust tells, with any such world and load."""
-    told = trust(house, seen, promises, tool)
-    if not is_told(value, len(told), told[0]):
+def is_deceived(judge, promises, tool, some, load):
+    """Whether any values are a world and a load that deceive a tool which can be deceived, as trust tells them."""
+    house = judge.house
+    if not fits(house, judge.seen, some):
         return False
-    if len(told) == 1:
-        return True
-    some, load = value[1], value[2]
-    if not fits(house, seen, some) or not isinstance(load, tuple) or not all([is_rows(house, rows) for rows in load]):
+    if not isinstance(load, tuple) or not all([is_rows(house, rows) for rows in load]):
         return False
-    if not any([rows for rows in load]) or measures(load) != measures(told[2]):
+    if not any([len(rows) for rows in load]) or measures(load) != measures(judge.verdict(promises, tool)[2]):
         return False
     if not all([is_kept(some, promise, rows) for promise, rows in zip(promises, load)]):
         return False
     return not is_done(some, promises[0][0], tool, load)
+
+
+def shows_trust(house, seen, promises, tool, value):
+    """Whether any value is what trust tells, with any such world and load."""
+    judge = judge_of(house, seen, promises, tool)
+    told = judge.verdict(promises, tool)
+    if not is_told(value, len(told), told[0]):
+        return False
+    return len(told) == 1 or is_deceived(judge, promises, tool, value[1], value[2])
