@@ -22,14 +22,13 @@ MILL = "file old by exact\nfile new by fine\nkeep once by loose of old\nboth all
 CUTS = "file f by exact\ncut g by exact of f from a to b\ncut h by loose of g from a to b\ncut i by fine of h from a to b\n" \
     "cut j by value of i from a to b\ncut k by exact of j from a to b\nkeep l by loose of k"
 
+FULL_CUTS = "file f by exact\ncut g by exact of f from a to b\ncut h by loose of g from a to b\ncut i by fine of h from a to b\n" \
+    "cut j by exact of i from b to b\ncut k by exact of j from a to b\nkeep l by loose of k"
+
 
 def long_work(many, last="keep z by exact of a"):
     """A work of so many lines."""
     return "\n".join([f"file {letter} by exact" for letter in "abcdefghijklm"[:many - 1]] + [last])
-
-
-def first_lines(text, many):
-    return "\n".join(text.split("\n")[:many])
 
 
 def wrong_changes(work):
@@ -144,11 +143,13 @@ class ChangedTest(Refusals):
                 lines = CUTS.split("\n")
                 lines[line - 1] = lines[line - 1].replace(" by " + plain_work(TEXT, CUTS)[line - 1][2], " by " + some)
                 self.assert_changed(CUTS, (("by", line, some),), "\n".join(lines))
-        text = CUTS.replace("from a to b\nkeep", "from a to b\ncut m by exact of k from a to b\nkeep").replace("of i from a to b", "of i from b to b")
-        self.assert_changed(text, (("by", 2, "value"), ("by", 6, "value")), None)
-        self.assert_changed(text, (("by", 2, "value"),), None)
-        self.assert_changed(text, (("by", 2, "loose"),), text.replace("g by exact", "g by loose"))
-        self.assert_changed(text, (("by", 6, "value"),), None)
+        self.assert_changed(FULL_CUTS, (("by", 2, "value"),), None)
+        self.assert_changed(FULL_CUTS, (("by", 6, "value"),), None)
+        self.assert_changed(FULL_CUTS, (("by", 2, "value"), ("by", 6, "value")), FULL_CUTS.replace(
+            "g by exact", "g by value").replace("k by exact", "k by value"))
+        self.assert_changed(FULL_CUTS, (("by", 2, "loose"),), FULL_CUTS.replace("g by exact", "g by loose"))
+        self.assert_changed(FULL_CUTS, (("by", 3, "value"),), FULL_CUTS.replace("h by loose", "h by value"))
+        self.assert_changed(FULL_CUTS, (("by", 2, "loose"), ("by", 3, "value")), None)
 
     def test_values_that_are_no_changes(self):
         for value in wrong_changes(self.work):
@@ -248,24 +249,30 @@ class CheapestTest(Refusals):
                 self.assertIs(shows_cheapest(work, (), offers, value), is_right, value)
 
     def test_choices_that_cannot_be_made_at_once(self):
-        house = House(TEXT)
-        text = "file a by exact\nkeep b by loose of a"
-        offers = ((("by", 1, "loose"), 1), (("by", 1, "value"), 1), (("by", 2, "fine"), 1), (("by", 2, "value"), 1))
-        told = cheapest(Work(house, text), (), offers)
-        self.assertEqual(told, plain_cheapest(house, (), text, offers))
-        none = cheapest(Work(house, text), (), offers[1:2] + offers[3:])
-        self.assertEqual(none[0], "choice")
-        text = long_work(11).replace("keep z by exact of a", "keep y by loose of a") + "\nkeep z by value of a"
-        for offers in (((("by", 11, "exact"), 1), (("by", 12, "loose"), 1)), ((("by", 11, "value"), 9), (("by", 12, "fine"), 9))):
+        """No two rules for one line, no thirteenth line, no fifth cut: such choices are passed over."""
+        for text, offers, choices in (
+            ("file a by exact\nkeep b by loose of a", ((("by", 2, "value"), 1), (("sort", 2), 9)), [(), (0,), (1,), (0, 1)]),
+            ("file a by exact\nkeep b by loose of a\nkeep c by loose of b",
+             ((("by", 2, "exact"), 1), (("by", 2, "fine"), 2), (("by", 2, "value"), 3)), [(), (0,), (1,), (2,)]),
+            (long_work(9, "both w by loose of b and c\nkeep y by loose of a\nkeep z by loose of b"),
+             ((("sort", 10), 1), (("sort", 11), 2)), [(), (0,), (1,)]),
+            (FULL_CUTS, ((("by", 2, "loose"), 1), (("by", 3, "value"), 1), (("by", 7, "value"), 3)), [(), (0,), (1,), (2,), (0, 2), (1, 2)]),
+        ):
+            house = House(TEXT)
             told = cheapest(Work(house, text), (), offers)
-            self.assertEqual(told, plain_cheapest(house, (), text, offers))
-        text = long_work(11).replace("keep z by exact of a", "keep z by loose of a")
-        work = Work(house, text.replace("keep z", "keep y") + "\nkeep z by loose of b")
-        self.assert_raises(BadOffers, ((("sort", 11), 1),), cheapest, work, (), ((("sort", 11), 1),))
-        work = Work(house, first_lines(text, 9) + "\nkeep y by loose of a\nkeep z by loose of b")
-        told = cheapest(work, (), ((("sort", 10), 1), (("sort", 11), 2)))
-        self.assertEqual([reason[0] for reason in told[1]], [(), (("sort", 10),), (("sort", 11),)])
-        self.assertEqual([reason[1][1] for reason in told[1]], [10, 12, 10])
+            self.assertEqual(told, plain_cheapest(house, (), text, offers), text)
+            all_told = [choice for price, choice, some in plain_choices(TEXT, text, offers)]
+            self.assertEqual(all_told, [tuple(offers[at][0] for at in choice) for choice in choices])
+            ahead = [reason[0] for reason in told[-1]]
+            self.assertEqual(ahead, all_told[:len(ahead)])
+            self.assertEqual(told[0], "none" if len(ahead) == len(all_told) else "choice")
+
+    def test_offers_that_cannot_be_made_alone(self):
+        for text, change in ((long_work(12), ("sort", 12)), (long_work(11, "merge z by exact of a and b"), ("sort", 11)), (FULL_CUTS, ("by", 2, "value"))):
+            work = Work(House(TEXT), text)
+            self.assertIsNone(plain_changed(TEXT, text, (change,)))
+            for offers in (((change, 1),), tuple(sorted([(("by", 1, "fine"), 1), (change, 1)]))):
+                self.assert_raises(BadOffers, offers, cheapest, work, (), offers)
 
     def test_beside_a_plain_list_of_all_choices(self):
         counts = {}

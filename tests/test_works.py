@@ -233,8 +233,7 @@ class WorkTest(Refusals):
         self.assertFalse(work != Work(House(TEXT), HEAD))
         self.assertFalse(work == Work(self.house, HEAD + "\n" + GOOD[0]))
         self.assertFalse(work == Work(self.house, HEAD.replace("old", "odd")))
-        more = House(TEXT + "\nrule more\n  length") if len(self.house) < 4 else House(TEXT.replace("a=A b", "A=a b"))
-        self.assertFalse(work == Work(more, HEAD))
+        self.assertFalse(work == Work(House(TEXT.replace("a=A b", "A=a b")), HEAD))
         for value in any_values() + [HEAD, self.house, (self.house, HEAD)]:
             self.assertIs(work == value, False)
             self.assertIs(value == work, False)
@@ -255,8 +254,8 @@ class ResultsTest(Refusals):
         house = House(TEXT)
         work = Work(house, "\n".join([
             "file a by exact", "file b by loose", "sort c by fine of a", "keep d by loose of c", "cut e by exact of c from A to a",
-            "merge f by loose of d and b", "both g by loose of a and b", "only h by loose of a and b", "find i by loose of f for B",
-        ]).replace("for B", "for b"))
+            "merge f by loose of d and b", "both g by loose of a and b", "only h by loose of a and b", "find i by loose of f for b",
+        ]))
         told = results(work, (("b", "a", "A", "1"), ("a", "2")))
         self.assertEqual(told, (
             ("b", "a", "A", "1"), ("a", "2"), ("1", "A", "a", "b"), ("1", "A", "b"), ("A", "a"), ("1", "A", "a", "2", "b"),
@@ -270,7 +269,7 @@ class ResultsTest(Refusals):
 
     def test_rows_that_are_alike_stay_in_their_sequence(self):
         work = Work(House(TEXT), "file a by exact\nsort b by loose of a\nsort c by exact of b\nsort d by loose of c")
-        told = results(work, (("ab", "A", "Ab", "a", "aB".lower()),))
+        told = results(work, (("ab", "A", "Ab", "a", "ab"),))
         self.assertEqual(told[1:], (("A", "a", "ab", "Ab", "ab"), ("A", "Ab", "a", "ab", "ab"), ("A", "a", "Ab", "ab", "ab")))
 
     def test_more_than_forty_rows(self):

@@ -23,20 +23,13 @@ class Stand:
 class Trial:
     """A block behind which a bench is as ahead of it, unless it is kept.
 
-    `outer` is the block around it, None if there is none; `kept` is None as
-    long as the block is not kept.
+    Once it is entered, `outer` is the block around it, None if there is none,
+    and `kept` is None as long as it is not kept. The others are those of the
+    bench as it was then.
     """
 
     def __init__(self, bench):
         self.bench = bench
-        self.outer = None
-        self.kept = None
-        self.stands = ()
-        self.done = 0
-        self.lines = ()
-        self.seen = ()
-        self.work = None
-        self.journal = ()
 
     def __enter__(self):
         bench = self.bench
